@@ -1,0 +1,84 @@
+"""[2] What holds for all functions and methods, and the names of the interface."""
+
+import importlib
+import inspect
+import unittest
+
+from unbrokenruns.places import follows, held, walks
+from unbrokenruns.programs import Program
+from unbrokenruns.stretches import Stretch, all_stretches, rows
+from tests.models import LOOP, MAZE
+
+# For each module, what it defines: the parameters of a function, or for a class those of its methods.
+FUNCTIONS = {
+    "places": {"follows": "(program, kind, place)", "held": "(program, kind, place)",
+               "walks": "(program, kind, *, most=4)"},
+    "stretches": {"rows": "(program, kind)", "all_stretches": "(program, kind)"},
+}
+CLASSES = {
+    "programs": {"Program": {"__init__": "(self, kinds)", "row": "(self, kind)", "steps": "(self, kind)"}},
+    "stretches": {"Stretch": {
+        "__init__": "(self, program, kind, path, begin, end)", "steps": "(self)", "within": "(self, other)",
+        "common": "(self, other)", "of": "(self, program)"}},
+}
+SIGNS = {"Program": ["__len__", "__contains__", "__eq__", "kinds", "variables", "locks", "MAX_KINDS",
+                     "MAX_VARIABLES", "MAX_LOCKS"],
+         "Stretch": ["__len__", "__contains__", "__eq__", "__lt__", "__and__"]}
+GENERATORS = ["walks", "all_stretches"]
+
+
+def module(name):
+    return importlib.import_module("unbrokenruns." + name)
+
+
+class InterfaceTest(unittest.TestCase):
+    def test_functions(self):
+        for name, functions in FUNCTIONS.items():
+            for word, parameters in functions.items():
+                found = getattr(module(name), word)
+                with self.subTest(word):
+                    self.assertEqual(found.__module__, "unbrokenruns." + name)
+                    self.assertEqual(str(inspect.signature(found)), parameters)
+                    self.assertEqual(inspect.isgeneratorfunction(found), word in GENERATORS)
+
+    def test_classes(self):
+        for name, classes in CLASSES.items():
+            for word, methods in classes.items():
+                found = getattr(module(name), word)
+                self.assertEqual((found.__module__, found.__bases__), ("unbrokenruns." + name, (object,)))
+                for method, parameters in methods.items():
+                    with self.subTest(word, method=method):
+                        self.assertEqual(str(inspect.signature(vars(found)[method])), parameters)
+                for sign in SIGNS[word]:
+                    self.assertIn(sign, vars(found))
+
+
+class RulesTest(unittest.TestCase):
+    def test_by_name_in_another_order(self):
+        program = Program(kinds=(LOOP, MAZE))
+        self.assertEqual(follows(place=0, program=program, kind="loop"), follows(program, "loop", 0))
+        self.assertEqual(held(kind="loop", place=0, program=program), held(program, "loop", 0))
+        self.assertEqual(list(walks(most=2, program=program, kind="maze")), list(walks(program, "maze", most=2)))
+        self.assertEqual(rows(kind="maze", program=program), rows(program, "maze"))
+        self.assertEqual(list(all_stretches(kind="maze", program=program)), list(all_stretches(program, "maze")))
+        stretch = Stretch(begin=0, end=1, kind="maze", path=(), program=program)
+        self.assertEqual(stretch, Stretch(program, "maze", (), 0, 1))
+        self.assertEqual(stretch.of(program=program), stretch)
+
+    def test_equal_calls_have_equal_results(self):
+        program = Program([LOOP, MAZE])
+        for call in (lambda: follows(program, "maze", 0), lambda: held(program, "maze", 2),
+                     lambda: list(walks(program, "maze")), lambda: rows(program, "maze"),
+                     lambda: list(all_stretches(program, "maze")), lambda: program.steps("maze"),
+                     lambda: program.kinds, lambda: program.variables, lambda: program.locks):
+            first, second = call(), call()
+            self.assertEqual(first, second)
+            self.assertIsNot(first, second)
+
+    def test_two_generators_do_not_disturb_each_other(self):
+        program = Program([MAZE])
+        pairs = list(zip(walks(program, "maze", most=3), walks(program, "maze", most=3)))
+        self.assertTrue(all(first == second and first is not second for first, second in pairs))
+        expected = list(all_stretches(program, "maze"))
+        self.assertEqual([first for first, _ in zip(all_stretches(program, "maze"), all_stretches(program, "maze"))],
+                         expected)

@@ -1,0 +1,177 @@
+"""The rules of the language that can be checked by reading the files of the package."""
+
+import ast
+import builtins
+import pathlib
+import re
+import unittest
+
+PACKAGE = pathlib.Path(__file__).resolve().parent.parent / "unbrokenruns"
+OUTSIDE = {"heapq": "heappush heappop heapify heapreplace heappushpop", "math": "gcd lcm isqrt comb perm factorial",
+           "itertools": "product combinations permutations chain accumulate pairwise islice zip_longest",
+           "collections": "defaultdict"}
+BUILTINS = set("""len range enumerate zip min max sum abs sorted reversed int str bool bytes list tuple dict set
+    frozenset isinstance ord repr any all divmod pow getattr hasattr setattr iter next map super property staticmethod
+    classmethod object Exception ValueError TypeError KeyError IndexError LookupError ZeroDivisionError
+    ArithmeticError OverflowError RuntimeError NotImplementedError AttributeError StopIteration
+    NotImplemented""".split())
+DOUBLE = set("""__init__ __eq__ __repr__ __str__ __len__ __enter__ __exit__ __call__ __iter__ __lt__ __le__ __gt__
+    __ge__ __ne__ __add__ __sub__ __mul__ __and__ __or__ __xor__ __neg__ __invert__ __bool__ __contains__
+    __getitem__ __setitem__""".split())
+WORDS = """type typing typing_extensions enum Enum IntEnum StrEnum Flag IntFlag Generic Protocol ABC ABCMeta namedtuple
+    NamedTuple TypedDict TYPE_CHECKING abstractmethod register mro elements open input law version_info with_traceback
+    add_note _wall _WallAttr eval exec compile globals locals vars id dir delattr""".split()
+METHODS = set("""append clear copy count endswith extend find get index insert isalnum isalpha isdigit islower isspace
+    isupper items join keys ljust lower lstrip partition pop remove replace reverse rfind rjust rpartition rsplit rstrip
+    setdefault split splitlines startswith strip update upper values zfill bit_length add discard sort title capitalize
+    swapcase casefold center expandtabs removeprefix removesuffix rindex isascii isdecimal isnumeric istitle
+    isidentifier isprintable format""".split())
+BARRED = (ast.GeneratorExp, ast.AsyncFunctionDef, ast.Global, ast.AnnAssign, ast.Div, ast.Await, ast.Import,
+          ast.MatMult, ast.TypeIgnore)
+
+
+def files():
+    return sorted(PACKAGE.glob("*.py"))
+
+
+def trees():
+    return [(path.name, ast.parse(path.read_text(encoding="utf-8"))) for path in files()]
+
+
+def nodes(kind):
+    return [(f"{name}:{node.lineno}", node) for name, tree in trees() for node in ast.walk(tree)
+            if isinstance(node, kind)]
+
+
+def bound_names():
+    """All names that are bound anywhere, with the place; attributes and methods are not among them."""
+    found = [(place, node.id) for place, node in nodes(ast.Name) if not isinstance(node.ctx, ast.Load)]
+    found += [(place, node.arg) for place, node in nodes(ast.arg)]
+    for name, tree in trees():
+        found += [(f"{name}:{node.lineno}", node.name) for node in tree.body
+                  if isinstance(node, (ast.FunctionDef, ast.ClassDef))]
+    return found
+
+
+class FilesTest(unittest.TestCase):
+    def test_the_folder(self):
+        for path in PACKAGE.iterdir():
+            if path.name != "__pycache__":
+                self.assertRegex(path.name, r"^[a-z][a-z0-9_]*\.py$|^__(init|main)__\.py$")
+        self.assertTrue((PACKAGE / "__init__.py").is_file())
+
+    def test_characters_and_sizes(self):
+        for path in files():
+            text = path.read_text(encoding="utf-8")
+            lines = text.split("\n")
+            self.assertEqual([x for x in text if x != "\n" and not " " <= x <= "~"], [], path.name)
+            self.assertLessEqual(len(lines), 400, path.name)
+            self.assertLessEqual(max(len(line) for line in lines), 120, path.name)
+        for place, node in nodes(ast.FunctionDef):
+            self.assertLessEqual(node.end_lineno - node.lineno + 1, 40, place)
+
+    def test_words(self):
+        for path in files():
+            text = path.read_text(encoding="utf-8")
+            self.assertEqual([word for word in WORDS if re.search(rf"\b{word}\b", text)], [], path.name)
+            self.assertNotRegex(text, "dataclass|overload|contextmanager")
+
+
+class StatementsTest(unittest.TestCase):
+    def test_imports(self):
+        for place, node in nodes(ast.ImportFrom):
+            words = [alias.name for alias in node.names]
+            self.assertEqual((node.level, [alias.asname for alias in node.names]), (0, [None] * len(words)), place)
+            if node.module in OUTSIDE:
+                self.assertLessEqual(set(words), set(OUTSIDE[node.module].split()), place)
+            else:
+                self.assertRegex(node.module, r"^unbrokenruns\.[a-z_]+$", place)
+                tree = dict(trees())[node.module.split(".")[1] + ".py"]
+                defined = {x.name for x in tree.body if isinstance(x, (ast.FunctionDef, ast.ClassDef))}
+                defined |= {x.targets[0].id for x in tree.body if isinstance(x, ast.Assign)}
+                self.assertLessEqual(set(words), defined, place)
+
+    def test_no_two_files_import_from_each_other(self):
+        above = {name: {node.module.split(".")[1] + ".py" for node in tree.body
+                        if isinstance(node, ast.ImportFrom) and node.module not in OUTSIDE} for name, tree in trees()}
+        while above:
+            free = [name for name in above if not above[name] & set(above)]
+            self.assertNotEqual(free, [], above)
+            above = {name: above[name] for name in above if name not in free}
+
+    def test_module_level(self):
+        for name, tree in trees():
+            self.assertIsNotNone(ast.get_docstring(tree), name)
+            for node in tree.body[1:]:
+                self.assertIsInstance(node, (ast.ImportFrom, ast.Assign, ast.FunctionDef, ast.ClassDef), name)
+                if isinstance(node, ast.Assign):
+                    ast.literal_eval(node.value)
+
+    def test_barred_nodes(self):
+        self.assertEqual([place for place, _ in nodes(BARRED)], [])
+        self.assertEqual([place for place, node in nodes(ast.Constant) if isinstance(node.value, (float, complex))], [])
+        for place, node in nodes(ast.FunctionDef):
+            self.assertIsNone(node.returns, place)
+        for place, node in nodes(ast.arg):
+            self.assertIsNone(node.annotation, place)
+
+    def test_decorators(self):
+        for place, node in nodes((ast.FunctionDef, ast.ClassDef)):
+            for mark in node.decorator_list:
+                self.assertRegex(ast.unparse(mark), r"^(property|staticmethod|classmethod|[a-z_]+\.setter)$", place)
+
+    def test_strings(self):
+        for place, node in nodes(ast.Constant):
+            if isinstance(node.value, str):
+                self.assertNotIn("%", node.value, place)
+
+    def test_is(self):
+        for place, node in nodes(ast.Compare):
+            for sign, side in zip(node.ops, node.comparators):
+                if isinstance(sign, (ast.Is, ast.IsNot)):
+                    self.assertIn(getattr(side, "value", "other"), (None, True, False), place)
+
+
+class NamesTest(unittest.TestCase):
+    def test_builtins(self):
+        known = set(dir(builtins)) - BUILTINS
+        for place, node in nodes(ast.Name):
+            self.assertNotIn(node.id, known, place)
+
+    def test_no_builtin_gets_another_meaning(self):
+        for place, name in bound_names():
+            self.assertFalse(hasattr(builtins, name), f"{place} {name}")
+            self.assertRegex(name, r"^(_|_?[A-Za-z][A-Za-z0-9_]*)$", place)
+
+    def test_no_name_of_an_import_or_a_class_is_bound_again(self):
+        for name, tree in trees():
+            taken = {alias.name for node in ast.walk(tree) if isinstance(node, ast.ImportFrom) for alias in node.names}
+            taken |= {node.name for node in tree.body if isinstance(node, ast.ClassDef)}
+            for node in ast.walk(tree):
+                if isinstance(node, ast.arg):
+                    self.assertNotIn(node.arg, taken, name)
+                if isinstance(node, ast.Name) and not isinstance(node.ctx, ast.Load):
+                    self.assertNotIn(node.id, taken, name)
+
+    def test_double_underscores(self):
+        for place, node in nodes(ast.FunctionDef):
+            if node.name.startswith("__"):
+                self.assertIn(node.name, DOUBLE, place)
+        for place, node in nodes(ast.Attribute):
+            if node.attr.startswith("__"):
+                self.assertEqual(node.attr, "__init__", place)
+
+    def test_methods_that_are_called(self):
+        own = {node.name for _, node in nodes(ast.FunctionDef)}
+        for place, node in nodes(ast.Call):
+            if isinstance(node.func, ast.Attribute):
+                self.assertIn(node.func.attr, METHODS | own, place)
+
+    def test_sorted_with_an_order_in_the_package(self):
+        """Because a class has an order, sorted takes only what is plainly numbers or strings."""
+        for place, node in nodes(ast.Call):
+            if isinstance(node.func, ast.Name) and node.func.id == "sorted":
+                keys = [word.value.id for word in node.keywords if word.arg == "key"
+                        and isinstance(word.value, ast.Name)]
+                plain = isinstance(node.args[0], ast.ListComp) and isinstance(node.args[0].elt, ast.Call)
+                self.assertTrue(plain or set(keys) & {"str", "int", "len"}, place)
