@@ -1,12 +1,19 @@
 """The examples of the document that use the modules that exist."""
 
+import doctest
+import pathlib
 import unittest
 
-from unbrokenruns.errors import InvalidProgram
+from unbrokenruns.chains import passes, ring
+from unbrokenruns.errors import Broken, InvalidProgram
+from unbrokenruns.gathering import exchanges, gathered
 from unbrokenruns.places import follows, held, walks
+from unbrokenruns.plays import played
 from unbrokenruns.programs import Program
+from unbrokenruns.runs import Run
 from unbrokenruns.stretches import Stretch, all_stretches, rows
 
+PAIR = Program([("put", (("read", "x"), ("write", "x")))])
 LOOP = ("loop", (("repeat", (("take", "m"), ("read", "x"), ("give", "m"))), ("own",)))
 
 
@@ -28,3 +35,31 @@ class ExamplesTest(unittest.TestCase):
         self.assertEqual([stretch.steps(), len(stretch), 2 in stretch,
                           stretch.within(Stretch(program, "loop", (), 0, 1))], [[1, 2], 2, True, True])
         self.assertEqual([rows(program, "loop"), len(list(all_stretches(program, "loop")))], [[(), ((0, 0),)], 9])
+
+    def test_runs(self):
+        run = Run(Program([LOOP]), ["loop", "loop"], [(0, 0), (0, 1)])
+        self.assertEqual([run.next_events(), run.holders, run.without(1).threads],
+                         [[(0, 2), (1, 3)], {"m": 0}, ["loop"]])
+
+    def test_plays(self):
+        run = Run(PAIR, ["put", "put"], [(0, 0), (1, 0), (1, 1), (0, 1)])
+        self.assertEqual(played(run, len, start={"x": 5}), ([[5], [5]], {"x": 1}))
+
+    def test_chains(self):
+        run = Run(PAIR, ["put", "put"], [(0, 0), (1, 0), (1, 1), (0, 1)])
+        self.assertEqual(passes(run, Stretch(PAIR, "put", (), 0, 2)), [(0, [0, 3]), (1, [1, 2])])
+        self.assertEqual([ring(run, (0, [0, 3])), ring(run, (1, [1, 2]))], [[0, 2, 3], None])
+
+    def test_gathering(self):
+        run = Run(PAIR, ["put", "put"], [(0, 0), (1, 0), (0, 1)])
+        self.assertEqual([exchanges(run, (0, [0, 2])), gathered(run, (0, [0, 2])).events],
+                         [[0], [(1, 0), (0, 0), (0, 1)]])
+        with self.assertRaises(Broken) as caught:
+            gathered(Run(PAIR, ["put", "put"], [(0, 0), (1, 0), (1, 1), (0, 1)]), (0, [0, 3]))
+        self.assertEqual(caught.exception.ring, [0, 2, 3])
+
+    def test_the_examples_of_the_readme(self):
+        readme = pathlib.Path(__file__).resolve().parent.parent / "README.md"
+        failures, tried = doctest.testfile(str(readme), module_relative=False)
+        self.assertEqual(failures, 0)
+        self.assertGreater(tried, 10)

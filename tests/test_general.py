@@ -4,27 +4,44 @@ import importlib
 import inspect
 import unittest
 
+from unbrokenruns.chains import chain, conflicts, depends, hanging, is_ring, passes, ring
+from unbrokenruns.gathering import exchanged, exchanges, gathered, is_gathering
 from unbrokenruns.places import follows, held, walks
+from unbrokenruns.plays import played
 from unbrokenruns.programs import Program
+from unbrokenruns.runs import Run, all_runs
 from unbrokenruns.stretches import Stretch, all_stretches, rows
 from tests.models import LOOP, MAZE
+
+PAIR = ("put", (("read", "x"), ("write", "x")))
 
 # For each module, what it defines: the parameters of a function, or for a class those of its methods.
 FUNCTIONS = {
     "places": {"follows": "(program, kind, place)", "held": "(program, kind, place)",
                "walks": "(program, kind, *, most=4)"},
     "stretches": {"rows": "(program, kind)", "all_stretches": "(program, kind)"},
+    "runs": {"all_runs": "(program, threads, *, most=6)"},
+    "plays": {"played": "(run, rule, *, start=None)"},
+    "chains": {"conflicts": "(one, other)", "depends": "(run, first, second)", "chain": "(run, first, second)",
+               "hanging": "(run, positions)", "passes": "(run, stretch)", "ring": "(run, passing)",
+               "is_ring": "(run, passing, value)"},
+    "gathering": {"exchanged": "(run, position)", "gathered": "(run, passing)", "exchanges": "(run, passing)",
+                  "is_gathering": "(run, passing, value)"},
 }
 CLASSES = {
     "programs": {"Program": {"__init__": "(self, kinds)", "row": "(self, kind)", "steps": "(self, kind)"}},
     "stretches": {"Stretch": {
         "__init__": "(self, program, kind, path, begin, end)", "steps": "(self)", "within": "(self, other)",
         "common": "(self, other)", "of": "(self, program)"}},
+    "runs": {"Run": {
+        "__init__": "(self, program, threads, events=())", "place": "(self, thread)", "step": "(self, position)",
+        "then": "(self, event)", "next_events": "(self)", "without": "(self, *threads)"}},
 }
 SIGNS = {"Program": ["__len__", "__contains__", "__eq__", "kinds", "variables", "locks", "MAX_KINDS",
                      "MAX_VARIABLES", "MAX_LOCKS"],
-         "Stretch": ["__len__", "__contains__", "__eq__", "__lt__", "__and__"]}
-GENERATORS = ["walks", "all_stretches"]
+         "Stretch": ["__len__", "__contains__", "__eq__", "__lt__", "__and__"],
+         "Run": ["__len__", "__iter__", "__contains__", "__eq__", "threads", "events", "holders"]}
+GENERATORS = ["walks", "all_stretches", "all_runs"]
 
 
 def module(name):
@@ -64,6 +81,41 @@ class RulesTest(unittest.TestCase):
         stretch = Stretch(begin=0, end=1, kind="maze", path=(), program=program)
         self.assertEqual(stretch, Stretch(program, "maze", (), 0, 1))
         self.assertEqual(stretch.of(program=program), stretch)
+
+    def test_runs_by_name_in_another_order(self):
+        program = Program([PAIR])
+        run = Run(events=[(0, 0), (1, 0), (1, 1)], threads=["put", "put"], program=program)
+        stretch = Stretch(program, "put", (), 0, 2)
+        self.assertEqual(run, Run(program, ["put", "put"], [(0, 0), (1, 0), (1, 1)]))
+        self.assertEqual([run.place(thread=1), run.step(position=2)], [1, ("write", "x")])
+        self.assertEqual(run.then(event=(0, 1)), run.then((0, 1)))
+        self.assertEqual(list(all_runs(most=2, threads=["put"], program=program)),
+                         list(all_runs(program, ["put"], most=2)))
+        self.assertEqual(played(start={"x": 2}, rule=len, run=run), played(run, len, start={"x": 2}))
+        self.assertEqual(conflicts(other=("read", "x"), one=("write", "x")), True)
+        self.assertEqual(depends(second=2, first=0, run=run), True)
+        self.assertEqual(chain(second=2, first=0, run=run), chain(run, 0, 2))
+        self.assertEqual(hanging(positions=[0], run=run), hanging(run, [0]))
+        self.assertEqual(passes(stretch=stretch, run=run), passes(run, stretch))
+        self.assertEqual(ring(passing=(0, [0]), run=run), None)
+        self.assertEqual(is_ring(value=[], passing=(0, [0]), run=run), False)
+        self.assertEqual(exchanged(position=0, run=run), exchanged(run, 0))
+        self.assertEqual(gathered(passing=(0, [0]), run=run), gathered(run, (0, [0])))
+        self.assertEqual(exchanges(passing=(0, [0]), run=run), exchanges(run, (0, [0])))
+        self.assertEqual(is_gathering(value=[], passing=(0, [0]), run=run), True)
+
+    def test_equal_calls_about_a_run_have_equal_results(self):
+        program = Program([PAIR])
+        run = Run(program, ["put", "put"], [(0, 0), (1, 0), (0, 1)])
+        stretch = Stretch(program, "put", (), 0, 2)
+        for call in (lambda: run.threads, lambda: run.events, lambda: run.holders, run.next_events,
+                     lambda: played(run, len)[0], lambda: played(run, len)[1], lambda: chain(run, 0, 2),
+                     lambda: hanging(run, [0]), lambda: passes(run, stretch), lambda: exchanges(run, (0, [0, 2]))):
+            first, second = call(), call()
+            self.assertEqual(first, second)
+            self.assertIsNot(first, second)
+            first.clear()
+            self.assertEqual(call(), second)
 
     def test_equal_calls_have_equal_results(self):
         program = Program([LOOP, MAZE])

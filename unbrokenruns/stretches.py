@@ -21,6 +21,15 @@ def row_at(row, path):
     return row
 
 
+def leads_into_repeat(row, path):
+    """Whether a path leads from a row into the row of a repeat, or further."""
+    for index, at in path:
+        if row[index][0] == "repeat":
+            return True
+        row = inner_rows(row[index])[at]
+    return False
+
+
 def steps_before(row, path, begin):
     """How many steps are written before the item at begin of the row at a path."""
     many = 0
@@ -60,6 +69,7 @@ class Stretch:
         self.path = path
         self.begin = begin
         self.end = end
+        self.repeated = leads_into_repeat(whole, path)
         # Steps are numbered as they are written, so those of neighbouring items have neighbouring numbers.
         self._numbers = tuple(range(first, first + len(row_steps(row[begin:end]))))
 
@@ -86,6 +96,12 @@ class Stretch:
         if not isinstance(other, Stretch):
             return NotImplemented
         return self.common(other)
+
+    def goes_on(self, place, number):
+        """Whether a thread that performs a step directly behind a place goes on with the same pass."""
+        if place not in self or number not in self:
+            return False
+        return not self.repeated or (number, True) not in self.program.ways(self.kind).nexts[place + 1]
 
     def within(self, other):
         """Whether the stretch lies within another one."""
