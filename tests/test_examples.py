@@ -1,5 +1,6 @@
 """The examples of the document that use the modules that exist."""
 
+import builtins
 import doctest
 import pathlib
 import unittest
@@ -7,12 +8,17 @@ import unittest
 from unbrokenruns.chains import passes, ring
 from unbrokenruns.errors import Broken, InvalidProgram
 from unbrokenruns.gathering import exchanges, gathered
+from unbrokenruns.pairs import bad_pairs, largest_unbroken
 from unbrokenruns.places import follows, held, walks
 from unbrokenruns.plays import played
 from unbrokenruns.programs import Program
 from unbrokenruns.runs import Run
+from unbrokenruns.search import fewest_others, most_others
+from unbrokenruns.states import moves
 from unbrokenruns.stretches import Stretch, all_stretches, rows
+from unbrokenruns.tables import is_unbroken, table
 
+THREE = Program([("b", (("read", "x"), ("read", "y"))), ("c", (("write", "x"),)), ("d", (("write", "y"),))])
 PAIR = Program([("put", (("read", "x"), ("write", "x")))])
 LOOP = ("loop", (("repeat", (("take", "m"), ("read", "x"), ("give", "m"))), ("own",)))
 
@@ -58,8 +64,37 @@ class ExamplesTest(unittest.TestCase):
             gathered(Run(PAIR, ["put", "put"], [(0, 0), (1, 0), (1, 1), (0, 1)]), (0, [0, 3]))
         self.assertEqual(caught.exception.ring, [0, 2, 3])
 
+    def test_states(self):
+        whole = Stretch(PAIR, "put", (), 0, 2)
+        self.assertEqual(moves(whole, (-1, (), ())), ([(0, (), ()), (0, (), ("own", "x", "read"))], False))
+        self.assertIs(moves(whole, (0, (), ("object", "x", "write")))[1], True)
+
+    def test_tables(self):
+        whole = Stretch(PAIR, "put", (), 0, 2)
+        self.assertEqual([is_unbroken(whole), is_unbroken(Stretch(PAIR, "put", (), 1, 2))], [False, True])
+        self.assertEqual(table(Stretch(Program([("rest", (("own",),))]), "rest", (), 0, 1)),
+                         [(-1, (), ()), (0, (), ())])
+
+    def test_search(self):
+        self.assertEqual([most_others(THREE), fewest_others(Stretch(THREE, "b", (), 0, 2))], [3, 3])
+
+    def test_pairs(self):
+        self.assertEqual(bad_pairs(THREE, "b"), [(0, 1, False)])
+        spin = Program([("spin", (("repeat", (("add", "x"),)),)), ("look", (("read", "x"),))])
+        self.assertEqual([bad_pairs(spin, "spin"), largest_unbroken(spin, "spin")[0].path],
+                         [[(0, 0, True)], ((0, 0),)])
+
+    def test_stretches_that_are_unbroken_but_not_together(self):
+        p = ("p", (("take", "l"), ("write", "x"), ("read", "y"), ("take", "m"), ("give", "m"), ("give", "l")))
+        q = ("q", (("take", "m"), ("write", "y"), ("read", "x"), ("take", "l"), ("give", "l"), ("give", "m")))
+        two = Program([p, q])
+        self.assertEqual([is_unbroken(Stretch(two, "p", (), 1, 3)), is_unbroken(Stretch(two, "q", (), 1, 3))],
+                         [True, True])
+
     def test_the_examples_of_the_readme(self):
         readme = pathlib.Path(__file__).resolve().parent.parent / "README.md"
+        # Showing a value gives it the name _ among the builtins, which test_language looks at.
+        self.addCleanup(vars(builtins).pop, "_", None)
         failures, tried = doctest.testfile(str(readme), module_relative=False)
         self.assertEqual(failures, 0)
         self.assertGreater(tried, 10)

@@ -62,7 +62,8 @@ class ExchangedTest(unittest.TestCase):
             self.assertEqual(run.events, before)
 
     def test_wrong_values(self):
-        for run in (Run(Program([PAIR]), ["put", "put", "put"], [(0, 0), (1, 0), (2, 0)]), Run(Program([PAIR]), ["put"])):
+        program = Program([PAIR])
+        for run in (Run(program, ["put", "put", "put"], [(0, 0), (1, 0), (2, 0)]), Run(program, ["put"])):
             for value in [*odd_values(), "0", -1, 3, max(len(run) - 1, 0), 10 ** 50, -10 ** 50, [0], (0,)]:
                 error = catch(exchanged, run, value)
                 with self.subTest(value=value):

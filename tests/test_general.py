@@ -6,11 +6,15 @@ import unittest
 
 from unbrokenruns.chains import chain, conflicts, depends, hanging, is_ring, passes, ring
 from unbrokenruns.gathering import exchanged, exchanges, gathered, is_gathering
+from unbrokenruns.pairs import bad_pairs, holds, largest_unbroken, unbroken_stretches
 from unbrokenruns.places import follows, held, walks
 from unbrokenruns.plays import played
 from unbrokenruns.programs import Program
 from unbrokenruns.runs import Run, all_runs
+from unbrokenruns.search import breaking_run, fewest_others, most_others
+from unbrokenruns.states import moves
 from unbrokenruns.stretches import Stretch, all_stretches, rows
+from unbrokenruns.tables import is_table, is_unbroken, table
 from tests.models import LOOP, MAZE
 
 PAIR = ("put", (("read", "x"), ("write", "x")))
@@ -27,6 +31,11 @@ FUNCTIONS = {
                "is_ring": "(run, passing, value)"},
     "gathering": {"exchanged": "(run, position)", "gathered": "(run, passing)", "exchanges": "(run, passing)",
                   "is_gathering": "(run, passing, value)"},
+    "states": {"moves": "(stretch, state)"},
+    "tables": {"is_unbroken": "(stretch)", "table": "(stretch)", "is_table": "(stretch, value)"},
+    "search": {"most_others": "(program)", "breaking_run": "(stretch)", "fewest_others": "(stretch)"},
+    "pairs": {"bad_pairs": "(program, kind)", "holds": "(stretch, pair)",
+              "unbroken_stretches": "(program, kind)", "largest_unbroken": "(program, kind)"},
 }
 CLASSES = {
     "programs": {"Program": {"__init__": "(self, kinds)", "row": "(self, kind)", "steps": "(self, kind)"}},
@@ -41,7 +50,7 @@ SIGNS = {"Program": ["__len__", "__contains__", "__eq__", "kinds", "variables", 
                      "MAX_VARIABLES", "MAX_LOCKS"],
          "Stretch": ["__len__", "__contains__", "__eq__", "__lt__", "__and__"],
          "Run": ["__len__", "__iter__", "__contains__", "__eq__", "threads", "events", "holders"]}
-GENERATORS = ["walks", "all_stretches", "all_runs"]
+GENERATORS = ["walks", "all_stretches", "all_runs", "unbroken_stretches"]
 
 
 def module(name):
@@ -103,6 +112,31 @@ class RulesTest(unittest.TestCase):
         self.assertEqual(gathered(passing=(0, [0]), run=run), gathered(run, (0, [0])))
         self.assertEqual(exchanges(passing=(0, [0]), run=run), exchanges(run, (0, [0])))
         self.assertEqual(is_gathering(value=[], passing=(0, [0]), run=run), True)
+
+    def test_stretches_by_name_in_another_order(self):
+        program = Program([PAIR])
+        whole, last = Stretch(program, "put", (), 0, 2), Stretch(program, "put", (), 1, 2)
+        self.assertEqual(moves(state=(-1, (), ()), stretch=whole), moves(whole, (-1, (), ())))
+        self.assertEqual([is_unbroken(stretch=whole), is_unbroken(stretch=last)], [False, True])
+        self.assertEqual(is_table(value=table(stretch=last), stretch=last), True)
+        self.assertEqual([most_others(program=program), fewest_others(stretch=whole)], [2, 1])
+        self.assertEqual(breaking_run(stretch=whole), breaking_run(whole))
+        self.assertEqual(bad_pairs(kind="put", program=program), [(0, 1, False)])
+        self.assertEqual(holds(pair=(0, 1, False), stretch=whole), True)
+        self.assertEqual(list(unbroken_stretches(kind="put", program=program)), largest_unbroken(program, "put"))
+        self.assertEqual(largest_unbroken(kind="put", program=program), largest_unbroken(program, "put"))
+
+    def test_equal_calls_about_a_stretch_have_equal_results(self):
+        program = Program([LOOP, PAIR])
+        last = Stretch(program, "put", (), 1, 2)
+        for call in (lambda: moves(last, (-1, (), ()))[0], lambda: table(last), lambda: bad_pairs(program, "put"),
+                     lambda: list(unbroken_stretches(program, "loop")), lambda: largest_unbroken(program, "loop"),
+                     lambda: breaking_run(Stretch(program, "put", (), 0, 2)).events):
+            first, second = call(), call()
+            self.assertEqual(first, second)
+            self.assertIsNot(first, second)
+            first.clear()
+            self.assertEqual(call(), second)
 
     def test_equal_calls_about_a_run_have_equal_results(self):
         program = Program([PAIR])

@@ -6,12 +6,17 @@ import unittest
 
 from unbrokenruns.chains import depends, passes, ring
 from unbrokenruns.gathering import exchanged, exchanges
+from unbrokenruns.pairs import bad_pairs, holds, largest_unbroken
 from unbrokenruns.plays import played
 from unbrokenruns.programs import Program
 from unbrokenruns.runs import Run, all_runs
+from unbrokenruns.search import fewest_others, most_others
+from unbrokenruns.states import moves
 from unbrokenruns.stretches import all_stretches
+from unbrokenruns.tables import is_table, is_unbroken, table
 from tests.models import LOOP, MAZE, OPEN, catch, random_rows
 from tests.slow import Replay, orders, stand_together
+from tests.slow_states import all_states, closure, crowd_breaks, crowd_pairs, small_programs
 
 PAIR = ("put", (("read", "x"), ("write", "x")))
 
@@ -101,3 +106,86 @@ class GuaranteeBTest(unittest.TestCase):
                         if len(passing[1]) > 1:
                             seen[self.check(run, passing)] += 1
         self.assertGreater(min(seen), 30)
+
+
+def programs_with_stretches():
+    """Small programs, each with all stretches of all its kinds."""
+    programs = (small_programs(25, 44, 2, 4, names=("x",), locks=()) + small_programs(6, 45, 2, 4, locks=())
+                + small_programs(25, 46, 2, 5, names=("x",), locks=("m",)))
+    return [(program, [stretch for kind in program.kinds for stretch in all_stretches(program, kind)])
+            for program in programs]
+
+
+class GuaranteeCTest(unittest.TestCase):
+    def test_broken_exactly_if_a_pass_is_broken_in_a_run(self):
+        seen = [0, 0]
+        for program, stretches in programs_with_stretches():
+            for stretch in stretches:
+                # More threads than these are not needed, as the definition of a chain shows.
+                broken = crowd_breaks(stretch, most_others(program))
+                seen[broken] += 1
+                self.assertIs(is_unbroken(stretch), not broken)
+                many = fewest_others(stretch)
+                self.assertIs(many is not None, broken)
+                if broken:
+                    self.assertLessEqual(many, max(2, 2 * len(program.variables) + len(program.locks) - 1))
+                    self.assertIs(crowd_breaks(stretch, many), True)
+                    self.assertIs(many > 1 and crowd_breaks(stretch, many - 1), False)
+        self.assertGreater(min(seen), 50)
+
+    def test_passes_of_all_short_runs(self):
+        for program, stretches in programs_with_stretches():
+            broken = []
+            for threads in itertools.combinations_with_replacement(program.kinds, 3):
+                for run in all_runs(program, list(threads), most=4):
+                    broken.extend(stretch for stretch in stretches if stretch not in broken
+                                  and any(ring(run, passing) for passing in passes(run, stretch)))
+            self.assertTrue(all(not is_unbroken(stretch) for stretch in broken))
+
+
+class GuaranteeDTest(unittest.TestCase):
+    def test_an_accepted_table_means_an_unbroken_stretch(self):
+        rng = random.Random(45)
+        accepted = 0
+        for program, stretches in programs_with_stretches():
+            for stretch in stretches:
+                states = all_states(stretch)
+                given = [closure(stretch, [(-1, (), ())])[0],
+                         closure(stretch, [(-1, (), ()), rng.choice(states)])[0],
+                         [state for state in states if not moves(stretch, state)[1]], states]
+                for value in given:
+                    if is_table(stretch, list(value)):
+                        accepted += 1
+                        self.assertIs(crowd_breaks(stretch, most_others(program)), False)
+        self.assertGreater(accepted, 50)
+
+    def test_each_unbroken_stretch_has_a_smallest_table(self):
+        for program, stretches in programs_with_stretches():
+            for stretch in stretches:
+                found = table(stretch)
+                self.assertIs(found is None, crowd_breaks(stretch, most_others(program)))
+                if found is not None:
+                    self.assertIs(is_table(stretch, found), True)
+                    for at in range(len(found)):
+                        self.assertIs(is_table(stretch, found[:at] + found[at + 1:]), False)
+
+
+class GuaranteeETest(unittest.TestCase):
+    def test_bad_pairs_and_unbroken_stretches(self):
+        for program, stretches in programs_with_stretches():
+            bad = {kind: crowd_pairs(program, kind, most_others(program)) for kind in program.kinds}
+            for stretch in stretches:
+                broken = crowd_breaks(stretch, most_others(program))
+                self.assertIs(any(holds(stretch, pair) for pair in bad[stretch.kind]), broken)
+                self.assertIs(any(holds(stretch, pair) for pair in bad_pairs(program, stretch.kind)), broken)
+
+    def test_stretches_within_unbroken_ones(self):
+        programs = programs_with_stretches() + [
+            (program, [stretch for kind in program.kinds for stretch in all_stretches(program, kind)])
+            for program in small_programs(30, 47, 3, 9)]
+        for program, stretches in programs:
+            unbroken = [stretch for stretch in stretches if is_unbroken(stretch)]
+            largest = [stretch for kind in program.kinds for stretch in largest_unbroken(program, kind)]
+            for stretch in stretches:
+                self.assertIs(stretch in unbroken, any(stretch.within(outer) for outer in unbroken))
+                self.assertIs(stretch in unbroken, any(stretch.within(outer) for outer in largest))

@@ -20,7 +20,6 @@ def exchanged(run, position):
 
 def gathered_order(run, passing):
     """The list of the positions in the order in which their events stand in the gathered run."""
-    check_pass(run, passing)
     found = ring(run, passing)
     if found is not None:
         raise Broken(found)

@@ -108,6 +108,22 @@ def row_holds(row, outer):
     return found
 
 
+def row_loops(row, first, loop):
+    """The list with, for each step of a row, the first step of the repeat that contains it, or None.
+
+    The steps of the row are numbered from first on; loop is what holds for the row itself.
+    """
+    found = []
+    for item in row:
+        below = first + len(found) if item[0] == "repeat" else loop
+        inners = inner_rows(item)
+        for inner in inners:
+            found.extend(row_loops(inner, first + len(found), below))
+        if not inners:
+            found.append(loop)
+    return found
+
+
 def link(nexts, lasts, firsts, around):
     """Lets each of the first steps come next behind each of the last ones."""
     for place in lasts:
@@ -161,3 +177,4 @@ class Ways:
         self.sequence = tuple(row_steps(row))
         self.nexts = tuple([tuple(following) for following in nexts])
         self.holds = ((), *row_holds(row, ()))
+        self.loops = tuple(row_loops(row, 0, None))
