@@ -175,3 +175,65 @@ class NamesTest(unittest.TestCase):
                         and isinstance(word.value, ast.Name)]
                 plain = isinstance(node.args[0], ast.ListComp) and isinstance(node.args[0].elt, ast.Call)
                 self.assertTrue(plain or set(keys) & {"str", "int", "len"}, place)
+
+    def test_least_and_greatest_are_of_plain_numbers(self):
+        """Because a class has an order, at least one argument is a number that stands there."""
+        for place, node in nodes(ast.Call):
+            if isinstance(node.func, ast.Name) and node.func.id in ("min", "max"):
+                self.assertTrue(any(isinstance(arg, ast.Constant) for arg in node.args), place)
+
+    def test_nothing_of_itertools_products(self):
+        """Because a run is iterated over and has a length."""
+        for place, node in nodes(ast.ImportFrom):
+            words = {alias.name for alias in node.names}
+            self.assertEqual(words & {"product", "combinations", "permutations"}, set(), place)
+
+
+class ClassesTest(unittest.TestCase):
+    def stored(self, tree):
+        """The names of the attributes that are assigned anywhere in a tree."""
+        return {node.attr for node in ast.walk(tree) if isinstance(node, ast.Attribute)
+                and not isinstance(node.ctx, ast.Load)}
+
+    def test_no_name_is_a_method_and_an_attribute_of_a_class(self):
+        for place, node in nodes(ast.ClassDef):
+            methods = {x.name for x in node.body if isinstance(x, ast.FunctionDef)}
+            self.assertEqual(methods & self.stored(node), set(), place)
+
+    def test_no_property_is_assigned(self):
+        named = {node.name for _, node in nodes(ast.FunctionDef) if node.decorator_list}
+        for name, tree in trees():
+            self.assertEqual(named & self.stored(tree), set(), name)
+
+    def test_each_attribute_that_is_read_is_a_method_or_assigned(self):
+        known = {node.name for _, node in nodes(ast.FunctionDef)} | METHODS
+        known |= set().union(*[self.stored(tree) for _, tree in trees()])
+        known |= {node.targets[0].id for _, outer in nodes(ast.ClassDef) for node in outer.body
+                  if isinstance(node, ast.Assign)}
+        for place, node in nodes(ast.Attribute):
+            self.assertIn(node.attr, known | {"__init__"}, place)
+
+
+class LoopsTest(unittest.TestCase):
+    def test_what_a_loop_iterates_over_is_not_changed_in_it(self):
+        changing = {"append", "extend", "insert", "pop", "remove", "clear", "update", "reverse", "setdefault"}
+        for place, loop in nodes(ast.For):
+            head = {ast.unparse(node) for node in ast.walk(loop.iter) if isinstance(node, (ast.Name, ast.Attribute))}
+            for node in [x for row in loop.body for x in ast.walk(row)]:
+                if isinstance(node, ast.Call) and isinstance(node.func, ast.Attribute) and node.func.attr in changing:
+                    self.assertNotIn(ast.unparse(node.func.value), head, place)
+                if isinstance(node, ast.Subscript) and not isinstance(node.ctx, ast.Load):
+                    self.assertNotIn(ast.unparse(node.value), head, place)
+
+    def test_generators_are_iterated_at_once(self):
+        named = {node.name for _, node in nodes(ast.FunctionDef)
+                 if any(isinstance(x, (ast.Yield, ast.YieldFrom)) for x in ast.walk(node))}
+        for name, tree in trees():
+            allowed = [node.iter for node in ast.walk(tree) if isinstance(node, (ast.For, ast.comprehension))]
+            calls = [node for node in ast.walk(tree) if isinstance(node, ast.Call) and isinstance(node.func, ast.Name)]
+            for node in calls:
+                if node.func.id in ("list", "tuple", "dict"):
+                    allowed.extend(node.args)
+            for node in calls:
+                if node.func.id in named:
+                    self.assertIn(node, allowed, f"{name}:{node.lineno}")
