@@ -8,18 +8,27 @@ import unittest
 from unbrokenruns.chains import passes, ring
 from unbrokenruns.errors import Broken, InvalidProgram
 from unbrokenruns.gathering import exchanges, gathered
+from unbrokenruns.movers import LatePaper, covers, motion
 from unbrokenruns.pairs import bad_pairs, largest_unbroken
 from unbrokenruns.places import follows, held, walks
 from unbrokenruns.plays import played
 from unbrokenruns.programs import Program
+from unbrokenruns.removal import largest_removals, without_locks
 from unbrokenruns.runs import Run
 from unbrokenruns.search import fewest_others, most_others
 from unbrokenruns.states import moves
 from unbrokenruns.stretches import Stretch, all_stretches, rows
+from unbrokenruns.stuck import calm_table, stuck_threads, sticking_run
 from unbrokenruns.tables import is_unbroken, table
+from unbrokenruns.together import first_ring, pass_ring, serial_order
 
 THREE = Program([("b", (("read", "x"), ("read", "y"))), ("c", (("write", "x"),)), ("d", (("write", "y"),))])
 PAIR = Program([("put", (("read", "x"), ("write", "x")))])
+LOCKED = Program([("put", (("take", "m"), ("read", "x"), ("write", "x"), ("give", "m")))])
+TWO = Program([
+    ("p", (("take", "l"), ("write", "x"), ("read", "y"), ("take", "m"), ("give", "m"), ("give", "l"))),
+    ("q", (("take", "m"), ("write", "y"), ("read", "x"), ("take", "l"), ("give", "l"), ("give", "m")))])
+WISHED = [Stretch(TWO, "p", (), 1, 3), Stretch(TWO, "q", (), 1, 3)]
 LOOP = ("loop", (("repeat", (("take", "m"), ("read", "x"), ("give", "m"))), ("own",)))
 
 
@@ -84,12 +93,28 @@ class ExamplesTest(unittest.TestCase):
         self.assertEqual([bad_pairs(spin, "spin"), largest_unbroken(spin, "spin")[0].path],
                          [[(0, 0, True)], ((0, 0),)])
 
-    def test_stretches_that_are_unbroken_but_not_together(self):
-        p = ("p", (("take", "l"), ("write", "x"), ("read", "y"), ("take", "m"), ("give", "m"), ("give", "l")))
-        q = ("q", (("take", "m"), ("write", "y"), ("read", "x"), ("take", "l"), ("give", "l"), ("give", "m")))
-        two = Program([p, q])
-        self.assertEqual([is_unbroken(Stretch(two, "p", (), 1, 3)), is_unbroken(Stretch(two, "q", (), 1, 3))],
-                         [True, True])
+    def test_movers(self):
+        self.assertEqual([covers(LOCKED, "x"), motion(LOCKED, "put", 1), motion(PAIR, "put", 1)],
+                         [["m"], "free", "fixed"])
+        self.assertEqual([LatePaper.least(Stretch(LOCKED, "put", (), 0, 4)).late,
+                          LatePaper.least(Stretch(PAIR, "put", (), 0, 2))], [(3,), None])
+
+    def test_together(self):
+        whole = Stretch(PAIR, "put", (), 0, 2)
+        run = Run(PAIR, ["put", "put"], [(0, 0), (1, 0), (1, 1), (0, 1)])
+        self.assertEqual([pass_ring(run, [whole]), serial_order(run, []),
+                          serial_order(Run(PAIR, ["put"], [(0, 0)]), [whole])], [[(0, 2), (1, 3)], [0, 1, 2, 3], [0]])
+        self.assertEqual([is_unbroken(WISHED[0]), is_unbroken(WISHED[1]),
+                          len(first_ring(TWO, ["p", "q"], WISHED, most=6))], [True, True, 6])
+
+    def test_stuck(self):
+        self.assertEqual(calm_table(LOCKED), [(), (("put", 0),), (("put", 1),), (("put", 2),)])
+        self.assertEqual([calm_table(TWO), len(sticking_run(TWO).threads)], [None, 2])
+        self.assertEqual(stuck_threads(Run(TWO, ["p", "q"], [(0, 0), (1, 0), (0, 1), (0, 2), (1, 1), (1, 2)])), [0, 1])
+
+    def test_removal(self):
+        self.assertEqual(without_locks(LOCKED, ["m"]).steps("put"), [("own",), ("read", "x"), ("write", "x"), ("own",)])
+        self.assertEqual(largest_removals(TWO, [WISHED[0]]), [("m",)])
 
     def test_the_examples_of_the_readme(self):
         readme = pathlib.Path(__file__).resolve().parent.parent / "README.md"

@@ -6,15 +6,20 @@ import unittest
 
 from unbrokenruns.chains import chain, conflicts, depends, hanging, is_ring, passes, ring
 from unbrokenruns.gathering import exchanged, exchanges, gathered, is_gathering
+from unbrokenruns.movers import LatePaper, covers, motion, next_in_pass
 from unbrokenruns.pairs import bad_pairs, holds, largest_unbroken, unbroken_stretches
 from unbrokenruns.places import follows, held, walks
 from unbrokenruns.plays import played
 from unbrokenruns.programs import Program
+from unbrokenruns.removal import breaks, largest_removals, removals, without_locks
 from unbrokenruns.runs import Run, all_runs
 from unbrokenruns.search import breaking_run, fewest_others, most_others
 from unbrokenruns.states import moves
 from unbrokenruns.stretches import Stretch, all_stretches, rows
+from unbrokenruns.stuck import calm_table, is_calm_table, sticking_run, stuck_threads
 from unbrokenruns.tables import is_table, is_unbroken, table
+from unbrokenruns.together import (first_ring, is_pass_ring, is_serial_order, pass_ring, serial_order, serial_run,
+                                   together, units)
 from tests.models import LOOP, MAZE
 
 PAIR = ("put", (("read", "x"), ("write", "x")))
@@ -36,6 +41,16 @@ FUNCTIONS = {
     "search": {"most_others": "(program)", "breaking_run": "(stretch)", "fewest_others": "(stretch)"},
     "pairs": {"bad_pairs": "(program, kind)", "holds": "(stretch, pair)",
               "unbroken_stretches": "(program, kind)", "largest_unbroken": "(program, kind)"},
+    "movers": {"covers": "(program, variable)", "motion": "(program, kind, number)",
+               "next_in_pass": "(stretch, number)"},
+    "together": {"units": "(run, stretches)", "serial_order": "(run, stretches)", "serial_run": "(run, stretches)",
+                 "pass_ring": "(run, stretches)", "is_serial_order": "(run, stretches, value)",
+                 "is_pass_ring": "(run, stretches, value)", "first_ring": "(program, threads, stretches, *, most)",
+                 "together": "(program, stretches)"},
+    "stuck": {"stuck_threads": "(run)", "sticking_run": "(program)", "calm_table": "(program)",
+              "is_calm_table": "(program, value)"},
+    "removal": {"without_locks": "(program, locks)", "breaks": "(program, locks, stretches)",
+                "removals": "(program, stretches)", "largest_removals": "(program, stretches)"},
 }
 CLASSES = {
     "programs": {"Program": {"__init__": "(self, kinds)", "row": "(self, kind)", "steps": "(self, kind)"}},
@@ -45,12 +60,14 @@ CLASSES = {
     "runs": {"Run": {
         "__init__": "(self, program, threads, events=())", "place": "(self, thread)", "step": "(self, position)",
         "then": "(self, event)", "next_events": "(self)", "without": "(self, *threads)"}},
+    "movers": {"LatePaper": {"__init__": "(self, stretch, late)", "cut": "(self, inner)"}},
 }
 SIGNS = {"Program": ["__len__", "__contains__", "__eq__", "kinds", "variables", "locks", "MAX_KINDS",
                      "MAX_VARIABLES", "MAX_LOCKS"],
          "Stretch": ["__len__", "__contains__", "__eq__", "__lt__", "__and__"],
-         "Run": ["__len__", "__iter__", "__contains__", "__eq__", "threads", "events", "holders"]}
-GENERATORS = ["walks", "all_stretches", "all_runs", "unbroken_stretches"]
+         "Run": ["__len__", "__iter__", "__contains__", "__eq__", "threads", "events", "holders"],
+         "LatePaper": ["__len__", "__iter__", "__contains__", "__eq__", "__or__", "__and__", "stands", "least"]}
+GENERATORS = ["walks", "all_stretches", "all_runs", "unbroken_stretches", "removals"]
 
 
 def module(name):
@@ -125,6 +142,44 @@ class RulesTest(unittest.TestCase):
         self.assertEqual(holds(pair=(0, 1, False), stretch=whole), True)
         self.assertEqual(list(unbroken_stretches(kind="put", program=program)), largest_unbroken(program, "put"))
         self.assertEqual(largest_unbroken(kind="put", program=program), largest_unbroken(program, "put"))
+
+    def test_papers_units_and_locks_by_name_in_another_order(self):
+        program = Program([LOOP, PAIR])
+        whole = Stretch(program, "put", (), 0, 2)
+        run = Run(program, ["put", "put"], [(0, 0), (1, 0), (0, 1)])
+        self.assertEqual(covers(variable="x", program=program), [])
+        self.assertEqual(motion(number=0, kind="loop", program=program), "later")
+        self.assertEqual(next_in_pass(number=0, stretch=whole), [1])
+        paper = LatePaper(late=[1], stretch=whole)
+        self.assertEqual(paper.cut(inner=whole), paper)
+        self.assertIsNone(LatePaper.least(stretch=whole))
+        self.assertEqual(units(stretches=[whole], run=run), [[0, 2], [1]])
+        self.assertEqual(serial_order(stretches=[whole], run=run), [1, 0, 2])
+        self.assertEqual(serial_run(stretches=[whole], run=run), serial_run(run, [whole]))
+        self.assertIsNone(pass_ring(stretches=[whole], run=run))
+        self.assertIs(is_serial_order(value=[1, 0, 2], stretches=[whole], run=run), True)
+        self.assertIs(is_pass_ring(value=[], stretches=[whole], run=run), False)
+        self.assertEqual(len(first_ring(most=4, stretches=[whole], threads=["put", "put"], program=program)), 4)
+        self.assertIs(together(stretches=[whole], program=program), False)
+        self.assertEqual([stuck_threads(run=run), sticking_run(program=program)], [[], None])
+        self.assertIs(is_calm_table(value=calm_table(program=program), program=program), True)
+        self.assertEqual(without_locks(locks=["m"], program=program).locks, [])
+        self.assertEqual(breaks(stretches=[whole], locks=[], program=program), [whole])
+        self.assertEqual(list(removals(stretches=[whole], program=program)), [((), [whole]), (("m",), [whole])])
+        self.assertEqual(largest_removals(stretches=[], program=program), [("m",)])
+
+    def test_calls_that_raise_change_nothing(self):
+        program = Program([LOOP, PAIR])
+        whole = Stretch(program, "put", (), 0, 2)
+        paper = LatePaper(whole, [1])
+        given = [whole, whole]
+        for call in (lambda: paper.cut(Stretch(program, "loop", (), 0, 1)), lambda: LatePaper(whole, [1, 7]),
+                     lambda: units(Run(program, ["put"]), given), lambda: together(program, given),
+                     lambda: first_ring(program, ["put"], given, most=9), lambda: breaks(program, ["z"], given),
+                     lambda: without_locks(program, ["m", "x"]), lambda: covers(program, "m")):
+            self.assertRaises(ValueError, call)
+        self.assertEqual([paper, given], [LatePaper(whole, [1]), [whole, whole]])
+        self.assertEqual(program, Program([LOOP, PAIR]))
 
     def test_equal_calls_about_a_stretch_have_equal_results(self):
         program = Program([LOOP, PAIR])

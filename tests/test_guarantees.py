@@ -6,6 +6,7 @@ import unittest
 
 from unbrokenruns.chains import depends, passes, ring
 from unbrokenruns.gathering import exchanged, exchanges
+from unbrokenruns.movers import LatePaper
 from unbrokenruns.pairs import bad_pairs, holds, largest_unbroken
 from unbrokenruns.plays import played
 from unbrokenruns.programs import Program
@@ -13,7 +14,9 @@ from unbrokenruns.runs import Run, all_runs
 from unbrokenruns.search import fewest_others, most_others
 from unbrokenruns.states import moves
 from unbrokenruns.stretches import all_stretches
+from unbrokenruns.stuck import calm_table, is_calm_table, sticking_run, stuck_threads
 from unbrokenruns.tables import is_table, is_unbroken, table
+from unbrokenruns.together import is_pass_ring, is_serial_order, pass_ring, serial_order, serial_run, together
 from tests.models import LOOP, MAZE, OPEN, catch, random_rows
 from tests.slow import Replay, orders, stand_together
 from tests.slow_states import all_states, closure, crowd_breaks, crowd_pairs, small_programs
@@ -189,3 +192,86 @@ class GuaranteeETest(unittest.TestCase):
             for stretch in stretches:
                 self.assertIs(stretch in unbroken, any(stretch.within(outer) for outer in unbroken))
                 self.assertIs(stretch in unbroken, any(stretch.within(outer) for outer in largest))
+
+
+class GuaranteeFTest(unittest.TestCase):
+    def test_a_paper_that_stands_means_an_unbroken_stretch(self):
+        standing = 0
+        for program, stretches in programs_with_stretches():
+            for stretch in stretches:
+                broken = crowd_breaks(stretch, most_others(program))
+                steps = stretch.steps()
+                for late in [[step for at, step in enumerate(steps) if number >> at & 1]
+                             for number in range(1 << len(steps))]:
+                    if LatePaper(stretch, late).stands:
+                        standing += 1
+                        self.assertIs(broken, False)
+                if not program.locks:
+                    self.assertIs(LatePaper.least(stretch) is None, broken)
+        self.assertGreater(standing, 200)
+
+    def test_larger_stretches(self):
+        for program in small_programs(30, 48, 3, 10) + small_programs(30, 49, 3, 10, locks=()):
+            for kind in program.kinds:
+                for stretch in all_stretches(program, kind):
+                    paper = LatePaper.least(stretch)
+                    if paper is not None:
+                        self.assertIs(is_unbroken(stretch), True)
+                    elif not program.locks:
+                        self.assertIs(is_unbroken(stretch), False)
+
+
+class GuaranteeGTest(unittest.TestCase):
+    def apart(self, stretches):
+        found = []
+        for stretch in stretches:
+            if not any(stretch.kind == one.kind and set(stretch.steps()) & set(one.steps()) for one in found):
+                found.append(stretch)
+        return found
+
+    def test_a_serial_order_or_a_ring_of_units(self):
+        seen = [0, 0]
+        for program, stretches in programs_with_stretches()[:40]:
+            chosen = self.apart(sorted(stretches, key=lambda one: -len(one)))
+            for threads in itertools.combinations_with_replacement(program.kinds, 3):
+                for run in all_runs(program, list(threads), most=4):
+                    order, found = serial_order(run, chosen), pass_ring(run, chosen)
+                    seen[order is None] += 1
+                    if order is None:
+                        self.assertIs(is_pass_ring(run, chosen, found), True)
+                    else:
+                        self.assertIsNone(found)
+                        self.assertIs(is_serial_order(run, chosen, order), True)
+                        self.assertIsNone(Replay(program, run.threads, serial_run(run, chosen).events).fault)
+        self.assertGreater(min(seen), 50)
+
+    def test_unbroken_one_by_one_with_at_most_one_lock(self):
+        runs = 0
+        for program, stretches in programs_with_stretches():
+            chosen = self.apart([one for one in sorted(stretches, key=lambda one: -len(one)) if is_unbroken(one)])
+            self.assertIs(together(program, chosen), True)
+            for threads in itertools.combinations_with_replacement(program.kinds, 3):
+                for run in all_runs(program, list(threads), most=5):
+                    runs += 1
+                    self.assertIsNotNone(serial_order(run, chosen))
+        self.assertGreater(runs, 5000)
+
+
+class GuaranteeHTest(unittest.TestCase):
+    def test_stuck_in_a_run_or_calm(self):
+        take = [(("take", one), ("take", other), ("give", other), ("give", one)) for one, other in ("lm", "ml", "mk", "kl")]
+        programs = [Program(list(zip("ab", rows))) for rows in itertools.combinations(take, 2)]
+        programs += [Program(list(zip("abc", rows))) for rows in itertools.combinations(take, 3)]
+        seen = [0, 0]
+        for program in programs + small_programs(15, 50, 2, 6, names=("x",)):
+            table = calm_table(program)
+            seen[table is None] += 1
+            self.assertIs(sticking_run(program) is None, table is not None)
+            if table is not None:
+                self.assertIs(is_calm_table(program, table), True)
+            sticking = False
+            for threads in itertools.combinations_with_replacement(program.kinds, 3):
+                sticking = sticking or any(stuck_threads(run) for run in all_runs(program, list(threads), most=4))
+            # In these programs four events are enough for threads to be stuck.
+            self.assertIs(sticking, table is None)
+        self.assertGreater(min(seen), 3)

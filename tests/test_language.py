@@ -125,6 +125,10 @@ class StatementsTest(unittest.TestCase):
             if isinstance(node.value, str):
                 self.assertNotIn("%", node.value, place)
 
+    def test_no_sets(self):
+        self.assertEqual([place for place, _ in nodes((ast.Set, ast.SetComp))], [])
+        self.assertEqual([place for place, node in nodes(ast.Name) if node.id in ("set", "frozenset")], [])
+
     def test_is(self):
         for place, node in nodes(ast.Compare):
             for sign, side in zip(node.ops, node.comparators):
@@ -199,6 +203,13 @@ class ClassesTest(unittest.TestCase):
         for place, node in nodes(ast.ClassDef):
             methods = {x.name for x in node.body if isinstance(x, ast.FunctionDef)}
             self.assertEqual(methods & self.stored(node), set(), place)
+
+    def test_no_name_is_a_method_of_one_class_and_an_attribute_of_another(self):
+        """The rules allow some of these; without any there is nothing to decide."""
+        methods = {node.name for _, outer in nodes(ast.ClassDef) for node in outer.body
+                   if isinstance(node, ast.FunctionDef)}
+        for name, tree in trees():
+            self.assertEqual(methods & self.stored(tree), set(), name)
 
     def test_no_property_is_assigned(self):
         named = {node.name for _, node in nodes(ast.FunctionDef) if node.decorator_list}

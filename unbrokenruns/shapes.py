@@ -75,6 +75,34 @@ def row_steps(row):
     return found
 
 
+def refilled(row, steps):
+    """The row in which these steps, in the order in which they are written, stand instead of its own ones."""
+    found = []
+    first = 0
+    for item in row:
+        inners = []
+        for inner in inner_rows(item):
+            behind = first + len(row_steps(inner))
+            inners.append(refilled(inner, steps[first:behind]))
+            first = behind
+        if inners:
+            found.append((item[0], *inners))
+        else:
+            found.append(steps[first])
+            first += 1
+    return tuple(found)
+
+
+def index_sets(many):
+    """The list of all sets of numbers below many, as ascending tuples: smaller ones first, then in ascending order."""
+    latest = [()]
+    found = []
+    while latest:
+        found.extend(latest)
+        latest = [(*chosen, at) for chosen in latest for at in range(chosen[-1] + 1 if chosen else 0, many)]
+    return found
+
+
 def locks_nest(row, outer):
     """Whether a row, in which the locks of the tuple outer are held, keeps the rules for locks."""
     taken = []

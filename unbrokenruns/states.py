@@ -96,6 +96,30 @@ class Cast:
             return None
         return self.numbers.get(value) if is_integer(value[1]) else None
 
+    def read_crew(self, value, busy):
+        """The seats of any value among threads that hold the locks in busy; None if it is no tuple of threads.
+
+        Such a tuple is ascending, each of its threads holds a lock, and no lock is held twice.
+        """
+        if not isinstance(value, tuple):
+            return None
+        found = []
+        for pair in value:
+            seat = self.seat(pair)
+            if seat is None or self.keeps[seat] == 0 or self.keeps[seat] & busy != 0:
+                return None
+            if found and seat < found[-1]:
+                return None
+            found.append(seat)
+            busy += self.keeps[seat]
+        return tuple(found)
+
+    def rank(self, number, crew):
+        """A number with which tuples of a number and the seats of a crew have the order of what they stand for."""
+        for at in range(len(self.program.locks)):
+            number = number * (len(self.seats) + 1) + (crew[at] + 1 if at < len(crew) else 0)
+        return number
+
     def deed(self, value):
         """The deed of a tuple of two values; None if it is no tuple (object, word)."""
         return self.deeds.index(value) if value in self.deeds else None
@@ -123,28 +147,13 @@ class Scene:
         seat = self.cast.seat((self.stretch.kind, value[0]))
         if seat is None:
             return None
-        others = self._read_others(value[1], self.cast.keeps[seat])
+        others = self.cast.read_crew(value[1], self.cast.keeps[seat])
         if others is None:
             return None
         carrier = self._read_carrier(value[2], others)
         if carrier is None or (carrier != NO_CARRIER and seat not in self.inside):
             return None
         return (seat, others, carrier)
-
-    def _read_others(self, value, busy):
-        """The seats of the others, among threads that hold the locks in busy; None if there is a fault."""
-        if not isinstance(value, tuple):
-            return None
-        found = []
-        for pair in value:
-            seat = self.cast.seat(pair)
-            if seat is None or self.cast.keeps[seat] == 0 or self.cast.keeps[seat] & busy != 0:
-                return None
-            if found and seat < found[-1]:
-                return None
-            found.append(seat)
-            busy += self.cast.keeps[seat]
-        return tuple(found)
 
     def _read_carrier(self, value, others):
         """The number of a carrier, any value; None if it is none beside these others."""
@@ -172,10 +181,7 @@ class Scene:
     def rank(self, state):
         """A number with which states have the order of what they stand for."""
         seat, others, carrier = state
-        number = seat
-        for at in range(len(self.cast.program.locks)):
-            number = number * (len(self.cast.seats) + 1) + (others[at] + 1 if at < len(others) else 0)
-        return number * len(self.cast.carriers) + carrier
+        return self.cast.rank(seat, others) * len(self.cast.carriers) + carrier
 
     def ascending(self, states):
         """The ascending list of some states as they are written, without duplicates."""
