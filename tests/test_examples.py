@@ -6,8 +6,10 @@ import pathlib
 import unittest
 
 from unbrokenruns.chains import passes, ring
-from unbrokenruns.errors import Broken, InvalidProgram
+from unbrokenruns.desk import Desk, tried
+from unbrokenruns.errors import BadText, Broken, InvalidProgram
 from unbrokenruns.gathering import exchanges, gathered
+from unbrokenruns.guards import carried, cheapest, guarded, tried_guards
 from unbrokenruns.movers import LatePaper, covers, motion
 from unbrokenruns.pairs import bad_pairs, largest_unbroken
 from unbrokenruns.places import follows, held, walks
@@ -20,6 +22,7 @@ from unbrokenruns.states import moves
 from unbrokenruns.stretches import Stretch, all_stretches, rows
 from unbrokenruns.stuck import calm_table, stuck_threads, sticking_run
 from unbrokenruns.tables import is_unbroken, table
+from unbrokenruns.texts import program_text, read_program, steps_table, stretch_text
 from unbrokenruns.together import first_ring, pass_ring, serial_order
 
 THREE = Program([("b", (("read", "x"), ("read", "y"))), ("c", (("write", "x"),)), ("d", (("write", "y"),))])
@@ -115,6 +118,29 @@ class ExamplesTest(unittest.TestCase):
     def test_removal(self):
         self.assertEqual(without_locks(LOCKED, ["m"]).steps("put"), [("own",), ("read", "x"), ("write", "x"), ("own",)])
         self.assertEqual(largest_removals(TWO, [WISHED[0]]), [("m",)])
+
+    def test_guards(self):
+        whole, first = Stretch(PAIR, "put", (), 0, 2), Stretch(PAIR, "put", (), 0, 1)
+        self.assertEqual(list(tried_guards(PAIR, [whole], [whole, first], lock="m")),
+                         [(0, (), ("broken", 0)), (1, (1,), ("broken", 0)), (2, (0,), None)])
+        self.assertEqual([guarded(PAIR, [whole], lock="m") == LOCKED, carried(PAIR, [whole], whole, lock="m").steps()],
+                         [True, [1, 2]])
+        self.assertEqual(cheapest(PAIR, [whole], [whole, first], lock="m"), (2, [whole]))
+
+    def test_desk(self):
+        desk = Desk(PAIR)
+        whole = Stretch(PAIR, "put", (), 0, 2)
+        self.assertEqual([desk.answer(whole), tried(desk, [("silence", "put", 0)], [whole]), desk.known(whole),
+                          desk.undoable], [False, [True], False, 0])
+
+    def test_texts(self):
+        program = Program([LOOP])
+        self.assertEqual([program_text(program), stretch_text(Stretch(program, "loop", ((0, 0),), 1, 3))],
+                         ["loop: repeat (take m; read x; give m); own", "loop 0.0 1-3"])
+        self.assertEqual(steps_table(program, "loop")[1], " 1 read  x        free    m")
+        with self.assertRaises(BadText) as caught:
+            read_program("a: own\nb: own;own")
+        self.assertEqual(caught.exception.line, 2)
 
     def test_the_examples_of_the_readme(self):
         readme = pathlib.Path(__file__).resolve().parent.parent / "README.md"

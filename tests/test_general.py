@@ -5,7 +5,10 @@ import inspect
 import unittest
 
 from unbrokenruns.chains import chain, conflicts, depends, hanging, is_ring, passes, ring
+from unbrokenruns.console import Console
+from unbrokenruns.desk import Desk, Trial, tried
 from unbrokenruns.gathering import exchanged, exchanges, gathered, is_gathering
+from unbrokenruns.guards import carried, cheapest, cost, fault, guarded, is_balanced, tried_guards
 from unbrokenruns.movers import LatePaper, covers, motion, next_in_pass
 from unbrokenruns.pairs import bad_pairs, holds, largest_unbroken, unbroken_stretches
 from unbrokenruns.places import follows, held, walks
@@ -18,6 +21,8 @@ from unbrokenruns.states import moves
 from unbrokenruns.stretches import Stretch, all_stretches, rows
 from unbrokenruns.stuck import calm_table, is_calm_table, sticking_run, stuck_threads
 from unbrokenruns.tables import is_table, is_unbroken, table
+from unbrokenruns.texts import (program_text, read_program, read_run, read_stretch, run_text, steps_table,
+                                stretch_text)
 from unbrokenruns.together import (first_ring, is_pass_ring, is_serial_order, pass_ring, serial_order, serial_run,
                                    together, units)
 from tests.models import LOOP, MAZE
@@ -51,6 +56,15 @@ FUNCTIONS = {
               "is_calm_table": "(program, value)"},
     "removal": {"without_locks": "(program, locks)", "breaks": "(program, locks, stretches)",
                 "removals": "(program, stretches)", "largest_removals": "(program, stretches)"},
+    "guards": {"is_balanced": "(stretch)", "guarded": "(program, guards, *, lock)",
+               "carried": "(program, guards, stretch, *, lock)", "fault": "(program, guards, wished, *, lock)",
+               "cost": "(guards, *, step_cost=1, guard_cost=0)",
+               "tried_guards": "(program, wished, choices, *, lock, step_cost=1, guard_cost=0)",
+               "cheapest": "(program, wished, choices, *, lock, step_cost=1, guard_cost=0)"},
+    "desk": {"tried": "(desk, edits, stretches)"},
+    "texts": {"program_text": "(program)", "read_program": "(text)", "stretch_text": "(stretch)",
+              "read_stretch": "(program, text)", "run_text": "(run)", "read_run": "(program, text)",
+              "steps_table": "(program, kind)"},
 }
 CLASSES = {
     "programs": {"Program": {"__init__": "(self, kinds)", "row": "(self, kind)", "steps": "(self, kind)"}},
@@ -61,13 +75,19 @@ CLASSES = {
         "__init__": "(self, program, threads, events=())", "place": "(self, thread)", "step": "(self, position)",
         "then": "(self, event)", "next_events": "(self)", "without": "(self, *threads)"}},
     "movers": {"LatePaper": {"__init__": "(self, stretch, late)", "cut": "(self, inner)"}},
+    "desk": {"Desk": {"__init__": "(self, program)", "apply": "(self, edit)", "answer": "(self, stretch)",
+                      "known": "(self, stretch)"},
+             "Trial": {"__init__": "(self, desk)"}},
+    "console": {"Console": {"__init__": "(self, program)", "__call__": "(self, line)"}},
 }
 SIGNS = {"Program": ["__len__", "__contains__", "__eq__", "kinds", "variables", "locks", "MAX_KINDS",
                      "MAX_VARIABLES", "MAX_LOCKS"],
          "Stretch": ["__len__", "__contains__", "__eq__", "__lt__", "__and__"],
          "Run": ["__len__", "__iter__", "__contains__", "__eq__", "threads", "events", "holders"],
-         "LatePaper": ["__len__", "__iter__", "__contains__", "__eq__", "__or__", "__and__", "stands", "least"]}
-GENERATORS = ["walks", "all_stretches", "all_runs", "unbroken_stretches", "removals"]
+         "LatePaper": ["__len__", "__iter__", "__contains__", "__eq__", "__or__", "__and__", "stands", "least"],
+         "Desk": ["__len__", "now", "undoable"], "Trial": ["__enter__", "__exit__"], "Console": ["__call__"]}
+GENERATORS = ["walks", "all_stretches", "all_runs", "unbroken_stretches", "removals",
+              "tried_guards"]
 
 
 def module(name):
@@ -167,6 +187,39 @@ class RulesTest(unittest.TestCase):
         self.assertEqual(breaks(stretches=[whole], locks=[], program=program), [whole])
         self.assertEqual(list(removals(stretches=[whole], program=program)), [((), [whole]), (("m",), [whole])])
         self.assertEqual(largest_removals(stretches=[], program=program), [("m",)])
+
+    def test_guards_edits_and_texts_by_name_in_another_order(self):
+        program = Program([PAIR])
+        whole = Stretch(program, "put", (), 0, 2)
+        self.assertIs(is_balanced(stretch=whole), True)
+        self.assertEqual(guarded(lock="m", guards=[whole], program=program), guarded(program, [whole], lock="m"))
+        self.assertEqual(carried(lock="m", stretch=whole, guards=[], program=program), whole)
+        self.assertIsNone(fault(lock="m", wished=[whole], guards=[whole], program=program))
+        self.assertEqual(cost(guard_cost=3, step_cost=2, guards=[whole]), 7)
+        self.assertEqual(list(tried_guards(guard_cost=1, step_cost=0, lock="m", choices=[whole], wished=[whole],
+                                           program=program)), [(0, (), ("broken", 0)), (1, (0,), None)])
+        self.assertEqual(cheapest(guard_cost=1, lock="m", choices=[whole], wished=[whole], program=program),
+                         (3, [whole]))
+        desk = Desk(program=program)
+        desk.apply(edit=("silence", "put", 0))
+        self.assertEqual([desk.answer(stretch=whole), desk.known(stretch=whole)], [True, True])
+        self.assertEqual(tried(stretches=[whole], edits=[("undo",)], desk=desk), [False])
+        with Trial(desk=desk) as held:
+            self.assertIs(held, desk)
+        self.assertEqual(Console(program=program)(line="stuck"), ["calm"])
+        self.assertEqual(read_program(text=program_text(program=program)), program)
+        self.assertEqual(read_stretch(text=stretch_text(stretch=whole), program=program), whole)
+        run = Run(program, ["put"], [(0, 0)])
+        self.assertEqual(read_run(text=run_text(run=run), program=program), run)
+        self.assertEqual(steps_table(kind="put", program=program)[0], " 0 read  x        fixed   -")
+
+    def test_parameters_by_name_only(self):
+        program = Program([PAIR])
+        whole = Stretch(program, "put", (), 0, 2)
+        for call in (lambda: guarded(program, [], "m"), lambda: carried(program, [], whole, "m"),
+                     lambda: fault(program, [], [], "m"), lambda: cost([], 1), lambda: cheapest(program, [], [], "m"),
+                     lambda: list(tried_guards(program, [], [], "m")), lambda: first_ring(program, ["put"], [], 3)):
+            self.assertRaises(TypeError, call)
 
     def test_calls_that_raise_change_nothing(self):
         program = Program([LOOP, PAIR])

@@ -5,7 +5,9 @@ import random
 import unittest
 
 from unbrokenruns.chains import depends, passes, ring
+from unbrokenruns.desk import Desk
 from unbrokenruns.gathering import exchanged, exchanges
+from unbrokenruns.guards import carried, guarded, is_balanced
 from unbrokenruns.movers import LatePaper
 from unbrokenruns.pairs import bad_pairs, holds, largest_unbroken
 from unbrokenruns.plays import played
@@ -16,10 +18,12 @@ from unbrokenruns.states import moves
 from unbrokenruns.stretches import all_stretches
 from unbrokenruns.stuck import calm_table, is_calm_table, sticking_run, stuck_threads
 from unbrokenruns.tables import is_table, is_unbroken, table
+from unbrokenruns.texts import program_text, read_program, read_run, read_stretch, run_text, stretch_text
 from unbrokenruns.together import is_pass_ring, is_serial_order, pass_ring, serial_order, serial_run, together
 from tests.models import LOOP, MAZE, OPEN, catch, random_rows
 from tests.slow import Replay, orders, stand_together
 from tests.slow_states import all_states, closure, crowd_breaks, crowd_pairs, small_programs
+from tests.test_desk import right_edits
 
 PAIR = ("put", (("read", "x"), ("write", "x")))
 
@@ -275,3 +279,80 @@ class GuaranteeHTest(unittest.TestCase):
             # In these programs four events are enough for threads to be stuck.
             self.assertIs(sticking, table is None)
         self.assertGreater(min(seen), 3)
+
+
+class GuaranteeJTest(unittest.TestCase):
+    def test_known_verdicts_stay_right_and_undone_edits_leave_no_trace(self):
+        kept = {True: 0, False: 0}
+        rng = random.Random(51)
+        programs = small_programs(30, 52, 2, 4, names=("x", "y"), locks=()) + small_programs(
+            20, 53, 2, 5, names=("x",), locks=("m",))
+        for program in programs:
+            edits = right_edits(program)
+            for edit in rng.sample(edits, min(4, len(edits))):
+                desk = Desk(program)
+                stretches = [stretch for kind in program.kinds for stretch in all_stretches(program, kind)]
+                before = [desk.answer(stretch) for stretch in stretches]
+                desk.apply(edit)
+                after = [stretch for kind in desk.now.kinds for stretch in all_stretches(desk.now, kind)]
+                for stretch in after:
+                    known = desk.known(stretch)
+                    if known is not None:
+                        kept[known] += 1
+                        self.assertIs(known, not crowd_breaks(stretch, most_others(desk.now)))
+                desk.answer(after[0])
+                desk.apply(("undo",))
+                self.assertEqual(desk.now, program)
+                self.assertEqual([desk.known(stretch) for stretch in stretches], before)
+                self.assertEqual([len(desk), desk.undoable], [len(stretches), 0])
+        self.assertGreater(min(kept.values()), 50)
+
+
+class OtherProgramsTest(unittest.TestCase):
+    """The guarantees for programs that were guarded, edited or read from texts."""
+
+    def check(self, program):
+        most = most_others(program)
+        for kind in program.kinds:
+            for stretch in all_stretches(program, kind):
+                broken = crowd_breaks(stretch, most)
+                self.assertIs(is_unbroken(stretch), not broken)
+                self.assertEqual(fewest_others(stretch) is None, not broken)
+                self.assertIs(table(stretch) is None, broken)
+                paper = LatePaper.least(stretch)
+                self.assertTrue(paper is None or not broken)
+                self.assertTrue(program.locks or (paper is None) is broken)
+                self.assertEqual(read_stretch(program, stretch_text(stretch)), stretch)
+            self.assertEqual(bad_pairs(program, kind), crowd_pairs(program, kind, most))
+        self.assertIs(sticking_run(program) is None, calm_table(program) is not None)
+        for threads in itertools.combinations_with_replacement(program.kinds, 2):
+            for run in all_runs(program, list(threads), most=3):
+                self.assertEqual(read_run(program, run_text(run)), run)
+                self.assertIsNotNone(serial_order(run, []))
+
+    def test_guarded_programs(self):
+        rng = random.Random(54)
+        for program in small_programs(12, 55, 2, 3, names=("x",), locks=()):
+            stretches = [stretch for kind in program.kinds for stretch in all_stretches(program, kind)]
+            guard = rng.choice([stretch for stretch in stretches if is_balanced(stretch)])
+            new = guarded(program, [guard], lock="new")
+            self.check(new)
+            for stretch in stretches:
+                moved = carried(program, [guard], stretch, lock="new")
+                self.assertIs(is_unbroken(moved), not crowd_breaks(moved, most_others(new)))
+
+    def test_edited_programs(self):
+        rng = random.Random(56)
+        for program in small_programs(15, 57, 2, 4, names=("x",), locks=("m",)):
+            desk = Desk(program)
+            for _ in range(2):
+                if right_edits(desk.now):
+                    edits = [edit for edit in right_edits(desk.now) if edit[0] != "add" or len(desk.now) == 1]
+                    desk.apply(rng.choice(edits))
+            self.check(desk.now)
+
+    def test_programs_that_were_read(self):
+        for program in small_programs(15, 58, 2, 4, names=("x",), locks=("m",)):
+            again = read_program(program_text(program))
+            self.assertEqual(again, program)
+            self.check(again)

@@ -222,7 +222,7 @@ class ClassesTest(unittest.TestCase):
         known |= {node.targets[0].id for _, outer in nodes(ast.ClassDef) for node in outer.body
                   if isinstance(node, ast.Assign)}
         for place, node in nodes(ast.Attribute):
-            self.assertIn(node.attr, known | {"__init__"}, place)
+            self.assertIn(node.attr, known | {"__init__", "setter"}, place)
 
 
 class LoopsTest(unittest.TestCase):

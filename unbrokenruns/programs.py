@@ -1,7 +1,7 @@
 """Programs of threads that share variables and locks."""
 
 from unbrokenruns.errors import InvalidProgram, UnknownKind
-from unbrokenruns.shapes import LOCK_WORDS, VARIABLE_WORDS, Ways, is_kind, locks_nest, row_steps
+from unbrokenruns.shapes import LOCK_WORDS, VARIABLE_WORDS, Ways, is_kind, locks_nest, refilled, row_steps
 
 
 def check_kind(kinds, index):
@@ -86,3 +86,9 @@ class Program:
     def steps(self, kind):
         """The list of the steps of a kind, by their numbers."""
         return list(self.ways(kind).sequence)
+
+
+def with_steps(program, table):
+    """The program with other steps for some kinds, which a dict from kinds to lists of steps tells."""
+    return Program([(kind, refilled(program.row(kind), table.get(kind, program.steps(kind))))
+                    for kind in program.kinds])

@@ -1,8 +1,8 @@
 """Locks left out of a program."""
 
 from unbrokenruns.errors import UnknownName
-from unbrokenruns.programs import Program
-from unbrokenruns.shapes import LOCK_WORDS, index_sets, refilled
+from unbrokenruns.programs import with_steps
+from unbrokenruns.shapes import LOCK_WORDS, index_sets
 from unbrokenruns.tables import is_unbroken
 
 
@@ -12,11 +12,9 @@ def without_locks(program, locks):
     for name in locks:
         if name not in known:
             raise UnknownName(name)
-    kinds = []
-    for kind in program.kinds:
-        steps = [("own",) if step[0] in LOCK_WORDS and step[1] in locks else step for step in program.steps(kind)]
-        kinds.append((kind, refilled(program.row(kind), steps)))
-    return Program(kinds)
+    table = {kind: [("own",) if step[0] in LOCK_WORDS and step[1] in locks else step for step in program.steps(kind)]
+             for kind in program.kinds}
+    return with_steps(program, table)
 
 
 def breaks(program, locks, stretches):
