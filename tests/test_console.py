@@ -44,7 +44,8 @@ class SlowConsole:
         self.desk = Desk(program)
 
     def answer(self, line):
-        for form, call in (("(ask|known|late)(?: (.*))?", self.stretch), ("show", self.show), ("steps ([^ ]*)", self.steps),
+        for form, call in (("(ask|known|late)(?: (.*))?", self.stretch), ("show", self.show),
+                           ("steps ([^ ]*)", self.steps),
                            ("largest ([^ ]*)", self.largest), ("stuck", self.stuck), ("(drop) ([^ ]*)", self.edit),
                            ("(merge) ([^ ]*) ([^ ]*)", self.edit), ("(undo)", self.edit),
                            ("(strengthen|silence) ([^ ]*) ([^ ]*)", self.step_edit)):
@@ -137,7 +138,8 @@ class CommandTest(unittest.TestCase):
                 self.assertEqual(console("late " + stretch_text(stretch)), [line])
             self.assertEqual(len(console.desk), 0)
         console = Console(Program([("rest", (OWN,)), PUT, ("locked", (("take", "m"), OWN, ("give", "m")))]))
-        self.assertEqual([console("late " + text) for text in ("rest top 0-1", "put top 0-2", "put top 1-2", "locked top 0-3")],
+        self.assertEqual([console("late " + text) for text in ("rest top 0-1", "put top 0-2", "put top 1-2",
+                                                               "locked top 0-3")],
                          [["late"], ["none"], ["late 1"], ["late 2"]])
 
     def test_edits(self):
@@ -192,7 +194,8 @@ class FormTest(unittest.TestCase):
 
     def test_unknown_commands(self):
         console = Console(Program([PUT]))
-        for line in ("", " ", "  ", "help", "Show", "show ", " show", "show put", "steps", "steps put put", "steps put ",
+        for line in ("", " ", "  ", "help", "Show", "show ", " show", "show put", "steps", "steps put put",
+                     "steps put ",
                      "steps  put", " steps put", "largest", "largest put ", "stuck put", "stuck ", "drop", "drop put x",
                      "merge", "merge x", "merge x y z", "merge x y ", "merge  x y", "strengthen", "strengthen put",
                      "strengthen put 0 1", "strengthen put  0", "silence put", "silence put 0 ", "undo ", "undo 1",
@@ -204,9 +207,12 @@ class FormTest(unittest.TestCase):
     def test_refused(self):
         console = Console(Program([PUT, LOOP]))
         for line in ("ask", "known", "late", "ask ", "known ", "late ", "ask put", "ask put top", "ask put top 0-9",
-                     "ask  put top 0-1", "ask put top 0-1 ", "ask put top 0-1\n", "known none top 0-1", "late put top 00-1",
-                     "late put 0.0 0-1", "ask put top 0-1 0-1", "drop none", "drop ", "merge x x", "merge x m", "merge z x",
-                     "merge  ", "merge x ", "strengthen put 1", "strengthen put 2", "strengthen put x", "strengthen put -1",
+                     "ask  put top 0-1", "ask put top 0-1 ", "ask put top 0-1\n", "known none top 0-1",
+                     "late put top 00-1",
+                     "late put 0.0 0-1", "ask put top 0-1 0-1", "drop none", "drop ", "merge x x", "merge x m",
+                     "merge z x",
+                     "merge  ", "merge x ", "strengthen put 1", "strengthen put 2", "strengthen put x",
+                     "strengthen put -1",
                      "strengthen put 00", "strengthen put 100", "strengthen put ", "strengthen none 0", "strengthen  0",
                      "silence loop 0", "silence loop 4", "silence loop 01", "silence loop +1", "silence  ", "undo",
                      "steps x", "largest x", "known put top 1-1", "strengthen put 0\n"):
@@ -228,7 +234,8 @@ class FormTest(unittest.TestCase):
                 elif choice == 1:
                     lines.append(rng.choice(["undo", "show", "stuck", "steps a", "largest put", "largest a"]))
                 else:
-                    lines.append(rng.choice(["ask ", "known ", "late "]) + stretch_text(rng.choice(everything(program))))
+                    text = stretch_text(rng.choice(everything(program)))
+                    lines.append(rng.choice(["ask ", "known ", "late "]) + text)
             self.same(lines, program)
 
     def test_answers_are_new(self):

@@ -187,7 +187,8 @@ class EditTest(DeskCase):
         self.assertEqual([desk.now, desk.undoable], [PAIR, 1])
 
     def test_add_errors(self):
-        for name, row, why in (("put", (OWN,), "name"), ("Bad", (OWN,), "form"), ("b", (), "form"), ("b", [OWN], "form"),
+        for name, row, why in (("put", (OWN,), "name"), ("Bad", (OWN,), "form"), ("b", (), "form"),
+                               ("b", [OWN], "form"),
                                (None, None, "form"), ("b", (("take", "m"),), "lock"), ("b", (OWN,) * 13, "form")):
             desk = Desk(PAIR)
             error = catch(desk.apply, ("add", name, row))

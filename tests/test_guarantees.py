@@ -263,7 +263,8 @@ class GuaranteeGTest(unittest.TestCase):
 
 class GuaranteeHTest(unittest.TestCase):
     def test_stuck_in_a_run_or_calm(self):
-        take = [(("take", one), ("take", other), ("give", other), ("give", one)) for one, other in ("lm", "ml", "mk", "kl")]
+        take = [(("take", one), ("take", other), ("give", other), ("give", one))
+                for one, other in ("lm", "ml", "mk", "kl")]
         programs = [Program(list(zip("ab", rows))) for rows in itertools.combinations(take, 2)]
         programs += [Program(list(zip("abc", rows))) for rows in itertools.combinations(take, 3)]
         seen = [0, 0]

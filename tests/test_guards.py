@@ -241,7 +241,8 @@ class GuardedTest(unittest.TestCase):
 
     def test_not_balanced_comes_before_overlapping(self):
         good, wrong = Stretch(LOCKED, "put", (), 1, 3), Stretch(LOCKED, "put", (), 0, 2)
-        for guards, index in (([wrong], 0), ([good, wrong, good], 1), ([good, good, Stretch(LOCKED, "put", (), 2, 4)], 2)):
+        for guards, index in (([wrong], 0), ([good, wrong, good], 1),
+                              ([good, good, Stretch(LOCKED, "put", (), 2, 4)], 2)):
             for call in self.calls(LOCKED, guards, "Bad"):
                 error = catch(call)
                 self.assertIs(error.__class__, NotBalanced)
@@ -271,7 +272,8 @@ class GuardedTest(unittest.TestCase):
 
     def test_arguments_by_name_only(self):
         for call in (lambda: guarded(PAIR, [], "m"), lambda: carried(PAIR, [], WHOLE, "m"),
-                     lambda: fault(PAIR, [], [], "m"), lambda: cost([], 1), lambda: next(tried_guards(PAIR, [], [], "m")),
+                     lambda: fault(PAIR, [], [], "m"), lambda: cost([], 1),
+                     lambda: next(tried_guards(PAIR, [], [], "m")),
                      lambda: cheapest(PAIR, [], [], "m"), lambda: guarded(PAIR, [])):
             self.assertIs(catch(call).__class__, TypeError)
 
@@ -377,7 +379,8 @@ class TriedTest(unittest.TestCase):
         self.assertEqual(list(tried_guards(PAIR, [WHOLE], choices, lock="m")),
                          [(0, (), ("broken", 0)), (1, (1,), ("broken", 0)), (2, (0,), None)])
         self.assertEqual(cheapest(PAIR, [WHOLE], choices, lock="m"), (2, [WHOLE]))
-        self.assertEqual(cheapest(guard_cost=3, lock="m", choices=choices, wished=[], program=PAIR, step_cost=2), (0, []))
+        self.assertEqual(cheapest(guard_cost=3, lock="m", choices=choices, wished=[], program=PAIR, step_cost=2),
+                         (0, []))
         self.assertIsNone(cheapest(PAIR, [WHOLE], [FIRST], lock="m"))
         self.assertEqual(list(tried_guards(PAIR, [WHOLE], choices, lock="m", step_cost=0, guard_cost=2)),
                          [(0, (), ("broken", 0)), (2, (0,), None)])

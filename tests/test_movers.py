@@ -71,7 +71,8 @@ def some_programs():
     """Programs with none, one, two and three locks."""
     deep = ("a", (("take", "m"), ("take", "l"), ("write", "x"), ("give", "l"), ("add", "y"), ("give", "m")))
     return [Program([LOOP, MAZE]), Program([OPEN, NESTED]), PAIR, LOCKED, Program([deep, ("b", deep[1][1:5])]),
-            Program([deep]), Program([deep, ("b", (("take", "k"), *deep[1][:1], ("read", "y"), *deep[1][5:], ("give", "k")))]),
+            Program([deep]), Program([deep, ("b", (("take", "k"), *deep[1][:1], ("read", "y"), *deep[1][5:],
+                                                   ("give", "k")))]),
             *small_programs(30, 201, 3, 6, locks=()), *small_programs(30, 202, 2, 8, names=("x",), locks=("m",)),
             *small_programs(30, 203, 2, 9, names=("x", "y")),
             *small_programs(25, 204, 2, 9, names=("x", "y", "z"), locks=("m", "l", "k"))]

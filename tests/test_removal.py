@@ -116,7 +116,8 @@ class RemovalsTest(unittest.TestCase):
             stretches = some_stretches(program)
             found = list(removals(program, stretches))
             self.assertEqual(found, [(locks, breaks(program, list(locks), stretches)) for locks in lock_sets(program)])
-        three = Program([("a", (("take", "l"), ("take", "k"), ("take", "m"), ("give", "m"), ("give", "k"), ("give", "l")))])
+        three = Program([("a", (("take", "l"), ("take", "k"), ("take", "m"), ("give", "m"), ("give", "k"),
+                                ("give", "l")))])
         self.assertEqual([locks for locks, _ in removals(three, [])],
                          [(), ("k",), ("l",), ("m",), ("k", "l"), ("k", "m"), ("l", "m"), ("k", "l", "m")])
 
@@ -139,7 +140,8 @@ class RemovalsTest(unittest.TestCase):
     def test_largest(self):
         seen = set()
         for program in some_programs():
-            for stretches in (some_stretches(program), [one for one in some_stretches(program) if is_unbroken(one)], []):
+            for stretches in (some_stretches(program), [one for one in some_stretches(program) if is_unbroken(one)],
+                              []):
                 good = [locks for locks in lock_sets(program) if not breaks(program, list(locks), stretches)]
                 expected = [locks for locks in good if not any(set(locks) < set(other) for other in good)]
                 self.assertEqual(largest_removals(program, stretches), expected)

@@ -8,7 +8,7 @@ from unbrokenruns.programs import Program
 from unbrokenruns.runs import Run, all_runs
 from unbrokenruns.stuck import calm_table, is_calm_table, stuck_threads, sticking_run
 from tests.models import LOOP, MAZE, NESTED, OPEN, odd_values
-from tests.slow import Replay, coming, flat, holding
+from tests.slow import Replay, coming, flat
 from tests.slow_states import all_pairs, locks_at, small_programs, step_at
 
 OWN = ("own",)
@@ -284,7 +284,8 @@ class CalmTableTest(unittest.TestCase):
         for program in some_programs():
             table = calm_table(program) or [(), (("p", 0),), (("q", 0),)]
             places = [pair for pair in all_pairs(program) if locks_at(program, pair)]
-            values = [table, table[::-1], rng.sample(table, len(table)), table * 2, tuple(table), [list(one) for one in table],
+            values = [table, table[::-1], rng.sample(table, len(table)), table * 2, tuple(table),
+                      [list(one) for one in table],
                       table + [table[-1]], [None, *table]]
             for _ in range(4):
                 at = rng.randrange(len(table))

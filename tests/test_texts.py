@@ -141,13 +141,16 @@ class ProgramTextTest(unittest.TestCase):
 
     def test_bad_lines(self):
         for line in ("", " ", "a", "a:", "a: ", "a:own", ": own", "A: own", "longnames: own", "a : own", " a: own",
-                     "a: own ", "a: own;", "a: own; ", "a: own;own", "a: own ; own", "a: own;  own", "a: Own", "a: owns",
+                     "a: own ", "a: own;", "a: own; ", "a: own;own", "a: own ; own", "a: own;  own", "a: Own",
+                     "a: owns",
                      "a: own x", "a: read", "a: read ", "a: read  x", "a: read X", "a: read longnames", "a: read x y",
                      "a: choose (own)", "a: choose (own | own | own | own)", "a: choose own | own", "a: choose()",
                      "a: choose (own|own)", "a: choose (own | own", "a: choose (own | own))", "a: choose ( own | own)",
-                     "a: choose (own |  own)", "a: choose (own | )", "a: repeat (own | own)", "a: repeat ()", "a: repeat own",
+                     "a: choose (own |  own)", "a: choose (own | )", "a: repeat (own | own)", "a: repeat ()",
+                     "a: repeat own",
                      "a: repeat(own)", "a: repeat (own) own", "a: repeats (own)", "a: (own)", "a: own | own", "a: 1",
-                     "a: read x1", "a: own\t", "a:  own", "a: choose", "a: repeat", "a: repeat (", "a: choose (own | own)|"):
+                     "a: read x1", "a: own\t", "a:  own", "a: choose", "a: repeat", "a: repeat (",
+                     "a: choose (own | own)|"):
             self.assertIsNone(slow_kind(line), line)
             for text, number in ((line, 1), ("a: own\n" + line, 2), ("a: own\nb: repeat (repeat (own))\n" + line, 3),
                                  (line + "\nb: own\n" + line, 1)):
@@ -180,7 +183,8 @@ class ProgramTextTest(unittest.TestCase):
             self.assertEqual(catch(read_program, line + "\nb").line, 2)
 
     def test_invalid_programs(self):
-        for text, index, why in (("a: own\na: own", 1, "name"), ("a: take m", 0, "lock"), ("a: own\nb: give m", 1, "lock"),
+        for text, index, why in (("a: own\na: own", 1, "name"), ("a: take m", 0, "lock"),
+                                 ("a: own\nb: give m", 1, "lock"),
                                  ("a: read m; take m; give m", None, "mixed"),
                                  ("a: read u; read v; read w; read x; read y", None, "many"),
                                  ("\n".join(f"{kind}: own" for kind in "abcde"), None, "form")):
@@ -206,7 +210,9 @@ class StretchTextTest(unittest.TestCase):
             self.assertEqual((found.__class__, found.line), (BadText, 1), text)
             return "bad"
         kind, path, bounds = text.split(" ")
-        pairs = () if path == "top" else tuple(tuple(int(number) for number in pair.split(".")) for pair in path.split("/"))
+        pairs = ()
+        if path != "top":
+            pairs = tuple(tuple(int(number) for number in pair.split(".")) for pair in path.split("/"))
         begin, end = (int(number) for number in bounds.split("-"))
         expected = catch(Stretch, program, kind, pairs, begin, end)
         if expected is None:
@@ -241,7 +247,8 @@ class StretchTextTest(unittest.TestCase):
 
     def test_errors_of_stretches(self):
         program = Program([LOOP])
-        for text in ("loop top 0-3", "loop top 1-1", "loop top 99-99", "loop 1.0 0-1", "loop 0.1 0-1", "loop 0.0/0.0 0-1",
+        for text in ("loop top 0-3", "loop top 1-1", "loop top 99-99", "loop 1.0 0-1", "loop 0.1 0-1",
+                     "loop 0.0/0.0 0-1",
                      "loop 99.99 0-1", "loop 0.0 3-4", "loop " + "/".join(["0.0"] * 30) + " 0-1"):
             self.assertEqual(self.check(program, text), "InvalidStretch")
         for text in ("top top 0-1", "none 9.9 5-1", "a top 0-1"):
@@ -298,9 +305,12 @@ class RunTextTest(unittest.TestCase):
 
     def test_lines(self):
         program = Program([LOOP])
-        for text, line in (("", 1), ("loop", 2), ("loop\n", 2), ("\nnone", 1), ("loop\nnone\n", 3), ("loop\nnone\nnone", 3),
-                           ("loop \nnone", 1), ("loop  loop\nnone", 1), ("loop\n ", 2), ("loop\n0.0 ", 2), ("loop\n 0.0", 2),
-                           ("loop\n0.0  0.1", 2), ("loop\n00.0", 2), ("loop\n0.00", 2), ("loop\n0.100", 2), ("loop\n0", 2),
+        for text, line in (("", 1), ("loop", 2), ("loop\n", 2), ("\nnone", 1), ("loop\nnone\n", 3),
+                           ("loop\nnone\nnone", 3),
+                           ("loop \nnone", 1), ("loop  loop\nnone", 1), ("loop\n ", 2), ("loop\n0.0 ", 2),
+                           ("loop\n 0.0", 2),
+                           ("loop\n0.0  0.1", 2), ("loop\n00.0", 2), ("loop\n0.00", 2), ("loop\n0.100", 2),
+                           ("loop\n0", 2),
                            ("loop\n0.0.0", 2), ("loop\nnone none", 2), ("loop\nNone", 2), ("Loop\nx\n\n", 1),
                            ("loop\nx\n\n", 2), ("loop\nnone\n\n", 3), ("loop,loop\nnone", 1), ("loop\n0,0", 2)):
             self.assertEqual(self.check(program, text), line, text)
@@ -317,7 +327,8 @@ class RunTextTest(unittest.TestCase):
 
 class TableTest(unittest.TestCase):
     def test_all_steps(self):
-        programs = [*some_programs(), Program([("a", (("take", "m"), ("take", "b"), ("write", "abcdefgh"), ("give", "b"),
+        programs = [*some_programs(),
+                    Program([("a", (("take", "m"), ("take", "b"), ("write", "abcdefgh"), ("give", "b"),
                                                       ("give", "m"), *[OWN] * 6, ("read", "ab")))])]
         for program in programs:
             for kind in program.kinds:
@@ -326,17 +337,20 @@ class TableTest(unittest.TestCase):
                 for number, step in enumerate(flat(row)):
                     locks = ",".join(sorted(holding(row)[number])) or "-"
                     touched = step[1] if len(step) == 2 else "-"
-                    expected.append(f"{number:>2} {step[0]:<5} {touched:<8} {slow_motion(program, kind, number):<7} {locks}")
+                    word = slow_motion(program, kind, number)
+                    expected.append(f"{number:>2} {step[0]:<5} {touched:<8} {word:<7} {locks}")
                 self.assertEqual(steps_table(program, kind), expected)
 
     def test_examples(self):
         self.assertEqual(steps_table(Program([LOOP]), "loop"),
                          [" 0 take  m        later   m", " 1 read  x        free    m",
                           " 2 give  m        earlier -", " 3 own   -        free    -"])
-        three = [("take", "c"), ("take", "b"), ("take", "a"), ("write", "abcdefgh"), ("give", "a"), ("give", "b"), ("give", "c")]
+        three = [("take", "c"), ("take", "b"), ("take", "a"), ("write", "abcdefgh"),
+                 ("give", "a"), ("give", "b"), ("give", "c")]
         lines = steps_table(kind="a", program=Program([("a", (*[OWN] * 5, *three))]))
-        self.assertEqual(lines[4:9], [" 4 own   -        free    -", " 5 take  c        later   c", " 6 take  b        later   b,c",
-                                      " 7 take  a        later   a,b,c", " 8 write abcdefgh free    a,b,c"])
+        self.assertEqual(lines[4:9], [" 4 own   -        free    -", " 5 take  c        later   c",
+                                      " 6 take  b        later   b,c", " 7 take  a        later   a,b,c",
+                                      " 8 write abcdefgh free    a,b,c"])
         self.assertEqual(lines[10], "10 give  b        earlier c")
         self.assertEqual(steps_table(Program([("a", (("write", "x"),))]), "a"), [" 0 write x        fixed   -"])
 

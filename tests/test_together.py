@@ -390,6 +390,14 @@ class FirstRingTest(unittest.TestCase):
             end = 1
             self.assertEqual(self.check(program, ["a", "b"], [Stretch(program, "a", path, 0, end)], 6), size)
 
+    def test_a_pass_that_is_left_or_goes_on(self):
+        """Behind the read, a thread goes on with the pass or leaves it for a step that conflicts."""
+        program = Program([("a", (("read", "x"), ("repeat", (OWN,)), ("read", "x"))), ("b", (("write", "x"),))])
+        self.assertIsNone(self.check(program, ["a", "b"], [Stretch(program, "a", (), 0, 2)], 6))
+        self.assertEqual(self.check(program, ["a", "b"], [Stretch(program, "a", (), 0, 3)], 6), 3)
+        both = [Stretch(program, "a", (), 0, 2), Stretch(program, "a", (), 2, 3)]
+        self.assertIsNone(self.check(program, ["a", "b", "b"], both, 5))
+
     def test_many_ways(self):
         steps = [("repeat", ((word, name),)) for word in ("read", "write", "add") for name in "xyzw"]
         program = Program([("a", tuple(steps))])

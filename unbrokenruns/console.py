@@ -1,7 +1,7 @@
 """A console that answers lines of text."""
 
 from unbrokenruns.desk import Desk
-from unbrokenruns.errors import BadText, RunsError, UnknownKind
+from unbrokenruns.errors import RunsError, UnknownKind
 from unbrokenruns.movers import LatePaper
 from unbrokenruns.pairs import largest_unbroken
 from unbrokenruns.stuck import sticking_run
@@ -31,14 +31,6 @@ def stuck_lines(program):
     """The lines that tell whether a program sticks."""
     run = sticking_run(program)
     return ["calm"] if run is None else run_text(run).split("\n")
-
-
-def number_part(text):
-    """The number that a part of a line tells."""
-    number = read_number(text)
-    if number is None:
-        raise BadText(1)
-    return number
 
 
 class Console:
@@ -76,6 +68,7 @@ class Console:
             return [stretch_text(stretch) for stretch in largest_unbroken(program, parts[1])]
         if parts[0] == "stuck":
             return stuck_lines(program)
-        edit = (*parts[:2], number_part(parts[2])) if parts[0] in NUMBER_WORDS else tuple(parts)
+        # A part that is no number becomes None, which is the number of no step.
+        edit = (*parts[:2], read_number(parts[2])) if parts[0] in NUMBER_WORDS else tuple(parts)
         self.desk.apply(edit)
         return [f"done {self.desk.undoable}"]

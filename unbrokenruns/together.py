@@ -147,8 +147,8 @@ class Loom:
     def __init__(self, program, threads, stretches):
         cast = Cast(program)
         self.cast = cast
-        self.clashes = self._all_clashes()
-        # A deed that conflicts with no step of the program tells nothing.
+        self.clashes = self._all_clashes(threads)
+        # A deed that conflicts with no step of these threads tells nothing.
         self.bits = [1 << deed if clash != 0 else 0 for deed, clash in zip(cast.deed_at, self.clashes)]
         self.joins = {}
         self.unfinished = {}
@@ -160,14 +160,15 @@ class Loom:
                     self.unfinished[first + number] = True
         self.begin = tuple([(cast.seat((kind, -1)), 0, 0, 0) for kind in threads])
 
-    def _all_clashes(self):
-        """The list with, for each seat, the deeds of steps of the program that conflict with its step."""
+    def _all_clashes(self, threads):
+        """The list with, for each seat, the deeds of steps of these threads that conflict with its step."""
         cast = self.cast
-        deeds = sorted({deed: True for deed in cast.deed_at if deed is not None}, key=int)
+        deeds = sorted({deed: True for deed, pair in zip(cast.deed_at, cast.seats)
+                        if deed is not None and pair[0] in threads}, key=int)
         steps = [(cast.deeds[deed][1], cast.deeds[deed][0]) for deed in deeds]
         against = {deed: sum([1 << other for other, written in zip(deeds, steps) if conflicts(step, written)])
                    for deed, step in zip(deeds, steps)}
-        return [0 if deed is None else against[deed] for deed in cast.deed_at]
+        return [0 if deed is None else against.get(deed, 0) for deed in cast.deed_at]
 
     def choices(self, state):
         """The list of the tuples (thread, step) of the events that are possible next."""
