@@ -26,6 +26,8 @@ METHODS = set("""append clear copy count endswith extend find get index insert i
     setdefault split splitlines startswith strip update upper values zfill bit_length add discard sort title capitalize
     swapcase casefold center expandtabs removeprefix removesuffix rindex isascii isdecimal isnumeric istitle
     isidentifier isprintable format""".split())
+CHANGING = set("append extend insert pop remove clear update reverse setdefault sort add discard".split())
+HEAPS = set("heappush heappop heapify heapreplace heappushpop".split())
 BARRED = (ast.GeneratorExp, ast.AsyncFunctionDef, ast.Global, ast.AnnAssign, ast.Div, ast.Await, ast.Import,
           ast.MatMult, ast.TypeIgnore)
 
@@ -51,6 +53,78 @@ def bound_names():
         found += [(f"{name}:{node.lineno}", node.name) for node in tree.body
                   if isinstance(node, (ast.FunctionDef, ast.ClassDef))]
     return found
+
+
+def walked(node):
+    """The texts of the names, fields and items that a loop over an expression iterates over; a copy has none."""
+    if isinstance(node, (ast.Name, ast.Attribute, ast.Subscript)):
+        return {ast.unparse(node)}
+    inner = []
+    if isinstance(node, ast.IfExp):
+        inner = [node.body, node.orelse]
+    elif isinstance(node, ast.BoolOp):
+        inner = node.values
+    elif isinstance(node, ast.NamedExpr):
+        inner = [node.target, node.value]
+    elif isinstance(node, ast.Call) and isinstance(node.func, ast.Name):
+        inner = node.args if node.func.id in ("enumerate", "zip", "reversed", "iter") else []
+    elif isinstance(node, ast.Call) and isinstance(node.func, ast.Attribute):
+        inner = [node.func.value] if node.func.attr in ("items", "keys", "values") else []
+    return set().union(*[walked(part) for part in inner])
+
+
+def renamings(target, value):
+    """The sets of texts that stand for one object behind an assignment."""
+    pair = (ast.Tuple, ast.List)
+    if isinstance(target, pair) and isinstance(value, pair) and len(target.elts) == len(value.elts):
+        return [found for one, other in zip(target.elts, value.elts) for found in renamings(one, other)]
+    return [walked(target) | walked(value)]
+
+
+def same_objects(function):
+    """The sets of texts that may stand for one object at some time, whatever the order of the assignments is."""
+    groups = []
+    for node in ast.walk(function):
+        if isinstance(node, ast.Assign):
+            told = [found for target in node.targets for found in renamings(target, node.value)]
+        else:
+            told = renamings(node.target, node.value) if isinstance(node, ast.NamedExpr) else []
+        for group in told:
+            met = [other for other in groups if other & group]
+            groups = [other for other in groups if not other & group] + [group.union(*met)]
+    return groups
+
+
+def changed(node):
+    """The texts of what a node changes."""
+    if isinstance(node, ast.Call) and isinstance(node.func, ast.Attribute) and node.func.attr in CHANGING:
+        return {ast.unparse(node.func.value)}
+    if isinstance(node, ast.Call) and isinstance(node.func, ast.Name) and node.func.id in HEAPS:
+        return {ast.unparse(node.args[0])}
+    if isinstance(node, ast.Subscript) and not isinstance(node.ctx, ast.Load):
+        return {ast.unparse(node.value)}
+    return {ast.unparse(node.target)} if isinstance(node, ast.AugAssign) else set()
+
+
+def changed_in_loops(tree):
+    """The ascending list of the lines that change what a loop or comprehension around them iterates over.
+
+    What it iterates over may have another name there, also one that it is given for a later turn of a loop.
+    """
+    lines = set()
+    for function in [node for node in ast.walk(tree) if isinstance(node, ast.FunctionDef)]:
+        groups = same_objects(function)
+        for node in ast.walk(function):
+            if isinstance(node, ast.For):
+                heads, rows = [node.iter], node.body
+            elif isinstance(node, (ast.ListComp, ast.SetComp, ast.DictComp, ast.GeneratorExp)):
+                heads, rows = [part.iter for part in node.generators], [node]
+            else:
+                continue
+            names = set().union(*[walked(head) for head in heads])
+            names = names.union(*[group for group in groups if group & names])
+            lines |= {x.lineno for row in rows for x in ast.walk(row) if changed(x) & names}
+    return sorted(lines)
 
 
 class FilesTest(unittest.TestCase):
@@ -235,6 +309,33 @@ class LoopsTest(unittest.TestCase):
                     self.assertNotIn(ast.unparse(node.func.value), head, place)
                 if isinstance(node, ast.Subscript) and not isinstance(node.ctx, ast.Load):
                     self.assertNotIn(ast.unparse(node.value), head, place)
+
+    def test_what_a_loop_iterates_over_is_not_changed_by_another_name(self):
+        for name, tree in trees():
+            self.assertEqual(changed_in_loops(tree), [], name)
+
+    def check_line(self, rows, line):
+        """Checks which line of the rows of a function, counted from 1, is told; None if none is."""
+        source = "\n".join(["def f(self, a, b, c):", *["    " + row for row in rows]])
+        self.assertEqual(changed_in_loops(ast.parse(source)), [] if line is None else [line + 1], source)
+
+    def test_changes_by_another_name_are_found(self):
+        self.check_line(["while a:", "    b = []", "    for x in a:", "        b.append(x)", "    a = b"], 4)
+        self.check_line(["c = a", "b = c", "for x in a:", "    b[x] = 1"], 4)
+        self.check_line(["self.rows = a", "for x in enumerate(self.rows):", "    del a[0]"], 3)
+        self.check_line(["b = self.rows[1]", "for x, y in b.items():", "    self.rows[1].clear()"], 3)
+        self.check_line(["b = a if c else []", "for x in b:", "    a.pop()"], 3)
+        self.check_line(["b, c = c or a, 1", "for x in zip(a, [1]):", "    b += [x]"], 3)
+        self.check_line(["if b := a:", "    for x in reversed(a):", "        heappush(b, x)"], 3)
+        self.check_line(["for x in a if c else b:", "    b.extend([x])"], 2)
+        self.check_line(["b = a", "return [b.pop() for x in c for y in a]"], 2)
+
+    def test_changes_of_a_copy_or_of_another_list_are_not_found(self):
+        self.check_line(["while a:", "    b = []", "    for x in list(a):", "        b.append(x)", "    a = b"], None)
+        self.check_line(["while a:", "    b = []", "    for x in a:", "        b.append(x)", "    a = list(b)"], None)
+        self.check_line(["b, d = a, c", "for x in b:", "    d.append(x)"], None)
+        self.check_line(["b = [*a]", "for x in a:", "    b.append(x)", "    a[0].append(x)"], None)
+        self.check_line(["for x in a:", "    b = c", "else:", "    a.append(b)"], None)
 
     def test_generators_are_iterated_at_once(self):
         named = {node.name for _, node in nodes(ast.FunctionDef)

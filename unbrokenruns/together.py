@@ -201,7 +201,7 @@ class Loom:
         layer = [self.begin]
         for _ in range(most):
             later = []
-            for state in layer:
+            for state in list(layer):
                 for event in self.choices(state):
                     after = self.behind(state, *event)
                     if after is None:
